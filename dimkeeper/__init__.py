@@ -1,0 +1,1 @@
+"""Dimkeeper: the least notebook with which a promise is kept in a world that is seen dimly."""
