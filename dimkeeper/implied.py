@@ -5,8 +5,11 @@ from dimkeeper.errors import BadPaper
 from dimkeeper.judged import settled
 from dimkeeper.lassos import closed_reading
 from dimkeeper.papers import Denial, Paper, is_called
+from dimkeeper.short_lassos import shorter_reading
 from dimkeeper.watches import Watch, check_fitting
 from dimkeeper.worlds import World
+
+MOST_TOLD = 200
 
 
 class Implied(Paper):
@@ -48,7 +51,7 @@ def implied(one, other):
                 continue
             ahead[pair] = (met[at], sign)
             if pair[1] == Watch.BROKEN:
-                return apart_at(calm, ahead, pair)
+                return apart_at(calm, other, ahead, pair)
             met.append(pair)
         at += 1
     return Implied(met)
@@ -59,8 +62,8 @@ def pair_behind(one, other, pair, sign):
     return one.place_of(pair[0], sign[0], sign[1]), other.place_of(pair[1], sign[0], sign[1])
 
 
-def apart_at(calm, ahead, pair):
-    """The Apart of a reading that leads to this pair, and stays unbroken for ever in the watch that is settled."""
+def apart_at(calm, other, ahead, pair):
+    """The Apart of a reading that leads to this pair, or of a shorter one where that is too long."""
     run = [pair[0]]
     reading = []
     while ahead[pair] is not None:
@@ -68,6 +71,8 @@ def apart_at(calm, ahead, pair):
         run.append(pair[0])
         reading.append(sign)
     whole, ring = closed_reading(calm, run[::-1], reading[::-1])
+    if len(whole) > MOST_TOLD:
+        whole, ring = shorter_reading(calm, other, whole, ring)
     return Apart(whole, ring)
 
 

@@ -2,8 +2,6 @@
 
 from dimkeeper.watches import Watch
 
-MOST_TOLD = 200
-
 
 def closed_reading(watch, run, reading):
     """The pair of a reading and the index of its ring: it begins with this reading, and stays unbroken for ever.
@@ -16,8 +14,7 @@ def closed_reading(watch, run, reading):
     else:
         rings = ways_to_rings(leads, run)
     signs, ring = min(rings, key=lambda told: len(told[0]))
-    whole = (*reading, *signs)
-    return (whole, ring) if len(whole) <= MOST_TOLD else folded(whole, ring)
+    return (*reading, *signs), ring
 
 
 def signs_behind(watch, state):
@@ -55,15 +52,3 @@ def shortest_walks(leads, start):
                 met.append((place, walks[place]))
         at += 1
     return walks
-
-
-def folded(reading, ring):
-    """The same endless reading, told as short as can be."""
-    loop = reading[ring:]
-    sizes = [size for size in range(1, len(loop) + 1) if len(loop) % size == 0]
-    loop = loop[:min([size for size in sizes if loop == loop[:size] * (len(loop) // size)])]
-    stem = reading[:ring]
-    while stem and stem[-1] == loop[-1]:
-        loop = (loop[-1], *loop[:-1])
-        stem = stem[:-1]
-    return (*stem, *loop), len(stem)

@@ -88,7 +88,9 @@ class Form(unittest.TestCase):
             imported = []
             for node in ast.walk(tree):
                 self.assertNotIsInstance(node, ast.Import, name)
-                if isinstance(node, ast.ImportFrom):
+                if isinstance(node, ast.ImportFrom) and node.module == "heapq":
+                    self.assertEqual([alias.name for alias in node.names], ["heappop", "heappush"])
+                elif isinstance(node, ast.ImportFrom):
                     self.assertEqual((node.level, node.module.split(".")[0]), (0, "dimkeeper"))
                     target = node.module.split(".")[1]
                     graph[name[:-3]].append(target)

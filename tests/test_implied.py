@@ -1,3 +1,5 @@
+import itertools
+
 from common import Case, chances, names, of_every_kind, random_watch
 
 from dimkeeper.errors import BadPaper, BadWatch, BadWorld, TooMany, Unlike
@@ -6,6 +8,7 @@ from dimkeeper.judged import settled
 from dimkeeper.leastwatch import least_watch
 from dimkeeper.papers import Denial, Paper
 from dimkeeper.promises import again, answered, anything, both, in_turn, never
+from dimkeeper.short_lassos import folded, shortest_lasso
 from dimkeeper.watches import Watch
 from dimkeeper.worlds import World
 
@@ -45,6 +48,17 @@ def ring_watch(size, signs):
     states = names("k", size)
     return Watch(labels, deeds, [(state, [[states[(at + 1) % size] if (label, deed) == signs[at] else "broken"
                                            for deed in deeds] for label in labels]) for at, state in enumerate(states)])
+
+
+def least_by_hand(calm, other, most):
+    """How many pairs the shortest reading has that breaks other and leads calm back to where it was, if at most most."""
+    signs = [(label, deed) for label in calm.labels for deed in calm.deeds]
+    for size in range(1, most):
+        for reading in itertools.product(signs, repeat=size):
+            run = [calm.after(reading[:at]) for at in range(size + 1)]
+            if other.after(reading) == "broken" and run[-1] != "broken" and run[-1] in run[:-1]:
+                return size
+    return most
 
 
 class ImpliedWatches(Case):
@@ -155,6 +169,38 @@ class ImpliedWatches(Case):
         short = Watch(R, D, [(state, [[after], ["z"]]) for state, after in zip(states[:150], states[1:])]
                       + [(states[150], [["broken"], [states[150]]]), ("z", [["broken"], ["z"]])])
         self.assertLessEqual(len(implied(short, never(R, D, ["r"])).reading), 3)
+
+    def test_the_shortest_reading_that_is_closed_by_itself(self):
+        for chance in chances(150):
+            labels = names("l", 2)
+            one, other = random_watch(chance, labels, ["d"], 4, 0.45), random_watch(chance, labels, ["d"], 4, 0.1)
+            if implied(one, other):
+                continue
+            calm = settled(one)
+            reading, ring = shortest_lasso(calm, other)
+            self.assertIs(shows_implied(one, other, Apart(reading, ring)), True)
+            self.assertEqual(min(len(reading), 8), least_by_hand(calm, other, 8))
+
+    def test_a_long_way_behind_the_first_break(self):
+        # Other breaks first behind 20 times r and an s, but behind the s one goes along 190 watch states; as well
+        # it breaks at the 30th r, and there one goes nowhere.
+        chain = names("c", 190)
+        one = Watch(R, D, [("x", [["x"], ["c0"]])]
+                    + [(state, [["broken"], [after]]) for state, after in zip(chain, chain[1:] + chain[-1:])])
+        count = names("k", 31)
+        other = Watch(R, D, [(count[at], [[count[at + 1] if at < 29 else "broken"], ["broken" if at >= 20 else "z"]])
+                             for at in range(30)] + [("z", [["z"], ["z"]])])
+        paper = implied(one, other)
+        self.assertLessEqual(len(paper.reading), 30)
+        self.assertIs(shows_implied(one, other, paper), True)
+
+    def test_folded(self):
+        a, b, c = ("a", "d"), ("b", "d"), ("c", "d")
+        for reading, ring, told in [([a], 0, ((a,), 0)), ([a, a, a], 2, ((a,), 0)), ([a, b, a, b], 0, ((a, b), 0)),
+                                    ([b, a, b], 1, ((b, a), 0)), ([c, b, a, b], 2, ((c, b, a), 1)),
+                                    ([c, a, b, a, b, a, b], 3, ((c, a, b), 1)), ([a, b, c], 1, ((a, b, c), 1)),
+                                    ([b, a, b, a, b], 1, ((b, a), 0)), ([a, b, c, b, c], 4, ((a, b, c, b, c), 4))]:
+            self.assertEqual(folded(tuple(reading), ring), told)
 
     def test_apart_world(self):
         paper = Apart([("s", "a"), ("s", "b"), ("r", "a")], 1)
