@@ -31,7 +31,7 @@ class Foe:
             raise NoDeed(deed)
         reply = self._line[2][self.task.world.deeds.index(deed)]
         if isinstance(reply, str):
-            self._line = self._behind(deed, reply)
+            self._line = self._line_behind(deed, reply)
             self.sight = reply
             self.moment += 1
             self.log = (*self.log, deed, reply)
@@ -40,7 +40,7 @@ class Foe:
             self.log = (*self.log, deed)
         return self.sight
 
-    def _behind(self, deed, sight):
+    def _line_behind(self, deed, sight):
         steps = Steps(self.task)
         shown = steps.splits(steps.following(steps.numbers_of(self._line[0]), deed))
         among = members([part for name, part in shown if name == sight][0])
