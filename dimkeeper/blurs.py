@@ -68,7 +68,7 @@ class Blur:
         reader = Reader(text)
         shown = {}
         last = ""
-        while not shown or reader.due() is not None:
+        while reader.due() is not None:
             reader.need(len(shown) < cls.MOST and is_name(reader.due()))
             last = reader.take(reader.due() > last)
             shown[last] = reader.take_name()

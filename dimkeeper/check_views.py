@@ -121,7 +121,7 @@ def is_kept(steps, lines, number):
     if views is None or not all([is_one_of(line[2], steps.deeds) for line in lines]):
         return False
     moments = {view: line[1] for view, line in zip(views, lines)}
-    if number > 1 and not all([moments.get(view, 0) >= number - 1 for view in steps.split_views(steps.begun())]):
+    if not all([moments.get(view, 0) >= number - 1 for view in steps.split_views(steps.begun())]):
         return False
     return all([is_kept_line(steps, moments, view, line[2]) for view, line in zip(views, lines)])
 

@@ -6,7 +6,6 @@ from dimkeeper.met_watch import met_watch
 from dimkeeper.watches import Watch, check_fitting, check_signs, check_watch
 
 MOST_MANY = 100
-NOT_WAITING = -1
 
 
 def check_some(some, names, part):
@@ -84,11 +83,12 @@ def answered(labels, deeds, asks, some, many):
     check_many(many)
 
     def step(kept, label, deed):
-        if kept != NOT_WAITING and label not in some:
-            return kept + 1 if kept + 1 < many else None
-        return 0 if label in asks else NOT_WAITING
+        # What is kept is 0 if no answer is waited for, otherwise 1 more than how many labels came since.
+        if kept > 0 and label not in some:
+            return kept + 1 if kept < many else None
+        return 1 if label in asks else 0
 
-    return met_watch(labels, deeds, NOT_WAITING, step)
+    return met_watch(labels, deeds, 0, step)
 
 
 def both(one, other):

@@ -113,6 +113,13 @@ class Case(unittest.TestCase):
         self.fails(errors.BadText(0, 0), kind.read, text.split(" ")[0] + "\t")
 
 
+def other_class(name, **told):
+    """An object of another class that is called like one of the program, and has its attributes."""
+    value = type(name, (), {})()
+    vars(value).update(told)
+    return value
+
+
 def names(stem, many):
     return [f"{stem}{at}" for at in range(many)]
 

@@ -1,5 +1,5 @@
 from bending import bent
-from common import Case, chances, of_every_kind, random_task
+from common import Case, chances, of_every_kind, other_class, random_task
 from hands import parts_by_hand
 from test_views import CLEAR, DIM, DRIFT, NEVER_X, ROOMS, next_by_hand, splits_by_hand
 
@@ -183,7 +183,8 @@ class CheckViews(Case):
         class LowLost(Lost):
             pass
         values = [held.parts, lost.parts, Paper("held", *held.parts), Denial("lost", *lost.parts), LowHeld(*held.parts),
-                  LowLost(*lost.parts), (held,), [lost]]
+                  LowLost(*lost.parts), (held,), [lost], other_class("Held", pages=held.pages, entries=held.entries),
+                  other_class("Lost", number=lost.number, ranked=lost.ranked, kept=lost.kept)]
         for value in of_every_kind() + values:
             for task in (CLEAR, ROOMS):
                 self.assertIs(shows_held(task, value), False)

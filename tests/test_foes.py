@@ -116,6 +116,26 @@ class Foes(Case):
         foe = Foe(task, paper)
         self.assertEqual([foe.sight, foe.do("a"), foe.do("a"), foe.way()], ["l", "m", None, (("s", "w"), ("u", "w"))])
 
+    def test_the_first_line_of_lesser_rank_within_the_split(self):
+        world = World.read("a b ; s l u m v k y y z n ; s ; u v , y / z , z / v , v / z , z / z , z")
+        blur = Blur({"l": "l", "m": "mk", "k": "mk", "y": "y", "n": "n"})
+        watch = Watch(["l", "m", "k", "y", "n"], ["a", "b"], [("w", [["broken" if label in "kn" else "w"] * 2 for label in "lmkyn"])])
+        task = Task(world, blur, watch)
+        s, u, v, y, z = [(state, "w") for state in "suvyz"]
+        lines = {"s": ([s], 3, ["mk", "y"]), "z": ([z], 1, [z, z]), "u": ([u], 2, ["n", "n"]), "v": ([v], 1, [v, v]),
+                 "y": ([y], 2, ["n", "n"])}
+        kept = [([s], 2, "b"), ([y], 1, "a")]
+        for order, told in [("szuvy", ["l", "mk", "n", None]), ("szvuy", ["l", "mk", None]), ("syzuv", ["l", "mk", "n", None])]:
+            paper = Lost(3, [lines[name] for name in order], kept)
+            self.assertTrue(shows_lost(task, paper))
+            foe = Foe(task, paper)
+            shown = [foe.sight]
+            while foe.sight is not None:
+                shown.append(foe.do("a"))
+            self.assertEqual(shown, told)
+            # From v the promise would be broken ahead of the last moment.
+            self.assertEqual(foe.way(), (s, u, z) if len(told) == 4 else (s, v))
+
     def test_lines_of_lesser_rank(self):
         still = World.read("a b ; o r ; o ; o , o")
         task = Task(still, Blur.alike(["r"]), again(["r", "s"], ["a", "b"], ["s"], 4))

@@ -1,6 +1,6 @@
 import itertools
 
-from common import Case, chances, names, of_every_kind, random_watch
+from common import Case, chances, names, of_every_kind, other_class, random_watch
 
 from dimkeeper.errors import BadPaper, BadWatch, BadWorld, TooMany, Unlike
 from dimkeeper.implied import Apart, Implied, apart_world, implied, shows_implied
@@ -242,6 +242,15 @@ class ImpliedWatches(Case):
 
         class Lower(Implied):
             pass
+
+        class LowerStill(Apart):
+            pass
+        self.assertIs(shows_implied(other, one, Apart([("s", "a"), ("s", "a"), ("r", "a")], 0)), True)
+        self.assertIs(shows_implied(other, one, LowerStill([("s", "a"), ("s", "a"), ("r", "a")], 0)), False)
+        self.assertIs(shows_implied(other, one, other_class("Apart", reading=(("s", "a"),) * 2 + (("r", "a"),), ring=0)), False)
+        self.assertIs(shows_implied(one, other, other_class("Implied", pairs=(("w0", "w0"), ("w1", "w1")))), False)
+        self.fails(BadPaper("paper"), apart_world, LowerStill([("s", "a")], 0), ["d"])
+        self.fails(BadPaper("paper"), apart_world, other_class("Apart", reading=(("s", "a"),), ring=0), ["d"])
         self.assertIs(shows_implied(one, other, Implied(pairs)), True)
         for value in of_every_kind() + [pairs, Paper("implied", pairs), Lower(pairs), Denial("apart", [("r", "a")], 0)]:
             self.assertIs(shows_implied(one, other, value), False)

@@ -1,4 +1,4 @@
-from common import Case, chances, names, of_every_kind, random_watch, random_world
+from common import Case, chances, names, of_every_kind, other_class, random_watch, random_world
 
 from dimkeeper.errors import BadWatch, BadWorld, NoLabel, Unlike
 from dimkeeper.judged import Safe, Unsafe, doomed, safe, settled, shows_safe
@@ -130,6 +130,11 @@ class Judged(Case):
                               (["p", "x"], ["right"]), (["p", "x"], ["right", "up"]), (["p", "x"], ["left", "left"]),
                               (["p", "x", "x"], ["right", "left"]), ("px", ["right", "left"]), (None, None)]:
             self.assertIs(shows_safe(DRIFT, NEVER_X, Unsafe(states, deeds)), False)
+        # A string of deeds is no row of deeds, nor is one of states a row of states.
+        coin = World.read("a b ; o r ; o ; o , o")
+        self.assertIs(shows_safe(coin, never_done(["r"], ["a", "b"], ["b"]), Unsafe(["o", "o"], ["a", "b"])), True)
+        self.assertIs(shows_safe(coin, never_done(["r"], ["a", "b"], ["b"]), Unsafe(["o", "o"], "ab")), False)
+        self.assertIs(shows_safe(coin, never_done(["r"], ["a", "b"], ["b"]), Unsafe("oo", ["a", "b"])), False)
         stands = [("p", "w0"), ("q", "w0"), ("x", "w0")]
         watch = anything(DRIFT.labels, DRIFT.deeds)
         self.assertIs(shows_safe(DRIFT, watch, Safe(stands)), True)
@@ -144,6 +149,13 @@ class Judged(Case):
 
         class Lower(Safe):
             pass
+
+        class LowerStill(Unsafe):
+            pass
+        self.assertIs(shows_safe(DRIFT, NEVER_X, Unsafe(["p", "x"], ["right", "left"])), True)
+        self.assertIs(shows_safe(DRIFT, NEVER_X, LowerStill(["p", "x"], ["right", "left"])), False)
+        self.assertIs(shows_safe(DRIFT, NEVER_X, other_class("Unsafe", states=("p", "x"), deeds=("right", "left"))), False)
+        self.assertIs(shows_safe(DRIFT, watch, other_class("Safe", stands=stands)), False)
         for value in of_every_kind() + [stands, Paper("safe", stands), Denial("unsafe", ["p"], ["left"]), Lower(stands)]:
             self.assertIs(shows_safe(DRIFT, watch, value), False)
             if value != stands and (not isinstance(value, dict) or None not in value):

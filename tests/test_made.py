@@ -48,6 +48,8 @@ class MadeWorlds(Case):
         self.fails(BadWorld("labels"), Made, world, blur, {"l": "x", "m": "x"}, {"d": "x"})
         self.fails(BadWorld("deeds"), Made, world, blur, {"l": "x"}, {"d": "x", "e": "x"})
         self.fails(BadWorld("deeds"), Made, world, Blur.apart(["m"]), {"l": "x"}, {})
+        self.fails(BadWorld("labels"), Made, world, blur, {"m": "x"}, {"d": "x"})
+        self.fails(BadWorld("deeds"), Made, world, blur, {"l": "x"}, {"e": "x"})
         two = flat(["d"], ["s", "t", "u"], ["m", "l", "k"])
         self.fails(NoLabel("l"), Made, two, Blur.apart(["m"]), {"l": "x", "m": "x", "k": "x"}, {"d": "x"})
 
@@ -142,6 +144,12 @@ class MadeWorlds(Case):
         one, other = ["b", "b.x", "a", "a.x"], ["x.y", "y"]
         self.fails(Twice("b.x.y"), beside, flat(["d"], one), flat(["d"], other))
         self.fails(Twice("a.x.y"), beside, flat(one), flat(other))
+
+    def test_the_first_label_and_sight_of_a_blur_that_come_twice(self):
+        # The labels and the sights of a blur are ascending; told pair by pair a.b.d would be the first one.
+        one, other = ["a", "a.b", "a.b.c"], ["b.d", "d", "c.c", "c"]
+        self.fails(Twice("a.b.c.c"), paired, Blur.apart(one), Blur.apart(other))
+        self.fails(Twice("a.b.c.c"), paired, Blur(dict(zip(["k", "l", "m"], one))), Blur(dict(zip(["k", "l", "m", "n"], other))))
 
     def test_paired(self):
         blur = paired(Blur({"a": "u", "b": "u"}), Blur({"c": "x", "d": "y"}))
