@@ -1,5 +1,5 @@
 from common import Case, chances, of_every_kind, random_task
-from hands import held_by_hand, lost_by_hand, ranks_by_hand
+from hands import held_by_hand, lost_by_hand, parts_by_hand, ranks_by_hand
 from test_views import CLEAR, DRIFT, NEVER_X, ROOMS, random_view, ring_task, splits_by_hand
 
 from dimkeeper.blurs import Blur
@@ -8,7 +8,7 @@ from dimkeeper.errors import BadTask, BadView, TooMany
 from dimkeeper.forced import Held, Lost, judge, rank_of
 from dimkeeper.promises import again, anything, done_in_turn
 from dimkeeper.tasks import Task
-from dimkeeper.views import beginnings
+from dimkeeper.views import beginnings, views_met
 from dimkeeper.watches import Watch
 from dimkeeper.worlds import World
 
@@ -121,3 +121,45 @@ class Forced(Case):
                 if within:
                     whole, less = rank_of(task, part), rank_of(task, within)
                     self.assertTrue(less is None or whole is not None and less >= whole)
+
+    def test_a_held_is_a_table_that_is_never_broken(self):
+        held = 0
+        for chance in chances(150):
+            task = random_task(chance)
+            paper = judge(task)
+            if not paper:
+                continue
+            held += 1
+            entries = {(page, sight): (deed, after) for page, sight, deed, after in paper.entries}
+            met = [(state, 1, kept) for state, kept in task.standing]
+            for state, page, kept in met:
+                deed, after = entries[page, task.sight_of(state)]
+                place = task.place_of((state, kept), deed)
+                self.assertNotEqual(place, "broken")
+                met += [triple for triple in [(one, after, place) for one in task.world.nexts(state, deed)] if triple not in met]
+        self.assertGreater(held, 50)
+
+    def test_kept_lines_keep_all_but_one_moment(self):
+        for chance in chances(300):
+            task = random_task(chance)
+            paper = judge(task)
+            if paper or paper.number == 1:
+                continue
+            told = {view: (moments, deed) for view, moments, deed in paper.kept}
+            views = [part for _, part in splits_by_hand(task, task.standing)]
+            for at in range(paper.number - 1):
+                behind = []
+                for view in views:
+                    moments, deed = told[view]
+                    self.assertGreaterEqual(moments, paper.number - 1 - at)
+                    behind += parts_by_hand(task, view, deed)
+                views = behind
+
+    def test_all_that_is_told_apart_has_one_watch_state(self):
+        for chance in chances(60):
+            task = random_task(chance)
+            blur = Blur.apart(task.world.labels)
+            clear = Task(task.world, blur, task.watch)
+            for view in views_met(clear):
+                self.assertEqual(len({kept for _, kept in view}), 1)
+            self.assertTrue(judge(clear) or not judge(Task(task.world, task.blur, task.watch)))

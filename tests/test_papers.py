@@ -1,4 +1,4 @@
-from common import Case, Thing, of_every_kind
+from common import Case, Thing, of_every_kind, other_class
 
 from dimkeeper.covers import Uncovered
 from dimkeeper.forced import Held, Lost
@@ -86,3 +86,4 @@ class Papers(Case):
             pass
         self.assertFalse(Lower((), ()) == Held((), ()))
         self.assertFalse(Held((), ()) == Lower((), ()))
+        self.assertFalse(Held((), ()) == other_class("Held", word="held", parts=((), ())))

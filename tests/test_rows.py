@@ -67,6 +67,14 @@ class Rows(Case):
                             self.assertIs(gives(world, other), False)
                             self.assertIsNone(way_of(world, list(other)))
 
+    def test_states_that_do_not_come_about_change_no_row(self):
+        for chance in chances(30):
+            world = random_world(chance)
+            for many in range(4):
+                rows = list(rows_of(world, many))
+                self.assertEqual(list(rows_of(world.cut(), many)), rows)
+                self.assertEqual({row[:-2] for row in rows_of(world, many + 1)}, set(rows))
+
     def test_rows_with_no_deeds(self):
         world = garden()
         self.assertEqual(list(rows_of(world, 0)), [("l",), ("r",)])
