@@ -46,7 +46,7 @@ class Table:
         if not are_named(sights, None):
             raise BadTable("sights")
         news = {}
-        for new in sorted(sights):
+        for new in sights:
             news.setdefault(sights[new], []).append(new)
         entries = [(page, new, deed, after) for page, sight, deed, after in self.entries
                    for new in news.get(sight, ())]

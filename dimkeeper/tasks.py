@@ -2,7 +2,7 @@
 
 from dimkeeper.blurs import check_blur
 from dimkeeper.checks import is_pair, is_row, is_within, twice
-from dimkeeper.errors import BadNumbers, BadStanding, BadTask, NoState
+from dimkeeper.errors import BadNumbers, BadStanding, BadTask
 from dimkeeper.orders import come_about, order_of
 from dimkeeper.stands import check_deeds_fit, check_labels_known, in_order, is_stand
 from dimkeeper.watches import Watch, check_watch
@@ -47,8 +47,6 @@ class Task:
         """The place behind a deed from any stand."""
         if not is_pair(stand):
             raise BadStanding("stand")
-        if stand[0] not in self.world:
-            raise NoState(stand[0])
         return self.watch.place_of(stand[1], self.world.label_of(stand[0]), deed)
 
     def changed(self, *, world=None, blur=None, watch=None, standing=None):

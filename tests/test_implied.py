@@ -199,7 +199,9 @@ class ImpliedWatches(Case):
         for reading, ring, told in [([a], 0, ((a,), 0)), ([a, a, a], 2, ((a,), 0)), ([a, b, a, b], 0, ((a, b), 0)),
                                     ([b, a, b], 1, ((b, a), 0)), ([c, b, a, b], 2, ((c, b, a), 1)),
                                     ([c, a, b, a, b, a, b], 3, ((c, a, b), 1)), ([a, b, c], 1, ((a, b, c), 1)),
-                                    ([b, a, b, a, b], 1, ((b, a), 0)), ([a, b, c, b, c], 4, ((a, b, c, b, c), 4))]:
+                                    ([b, a, b, a, b], 1, ((b, a), 0)), ([b, c, a, b, c], 2, ((b, c, a), 0)),
+                                    ([c, a, b, c], 1, ((c, a, b), 0)), ([a, a, c, a, b, c], 3, ((a, a, c, a, b), 2)),
+                                    ([b, b, c, a, b, c], 3, ((b, b, c, a), 1)), ([a, b, c, a, b, c, a], 4, ((a, b, c), 0)), ([a, b, c, b, c], 4, ((a, b, c, b, c), 4))]:
             self.assertEqual(folded(tuple(reading), ring), told)
 
     def test_apart_world(self):

@@ -124,7 +124,10 @@ class Tasks(Case):
     def test_equality(self):
         self.same([Task(DRIFT, APART, SOON), Task(DRIFT, APART, SOON, [("p", "w0")]), Task(DRIFT.begun("p"), APART, SOON),
                    Task(DRIFT, Blur.alike(["l", "r", "x"]), SOON), Task(DRIFT, APART, SOON.begun("w1")),
-                   Task(DRIFT.begun("q"), APART, SOON, [("p", "w0")])])
+                   Task(DRIFT.begun("q"), APART, SOON, [("p", "w0")]),
+                   Task(DRIFT, APART, again(["x", "l", "r"], ["right", "left"], ["x"], 3)),
+                   Task(DRIFT.begun("p", "q", "x"), APART, SOON, [("p", "w0"), ("q", "w0")]),
+                   Task(DRIFT, Blur({"l": "a", "r": "b", "x": "c"}), SOON)])
         self.assertEqual(Task(DRIFT, APART, SOON), Task(DRIFT, APART, SOON, [("q", "w0"), ("p", "w0")]))
 
     def test_nothing_is_shared(self):

@@ -176,7 +176,11 @@ class Watches(Case):
             TEXT, "s r ; a b ; w0 w1 ; w0 w1 , w0 broken / w0 broken , w1 w1",
             "r s ; b a ; w0 w1 ; w0 w1 , w0 broken / w0 broken , w1 w1",
             "r s ; a b ; w1 w0 ; w0 w1 , w0 broken / w0 broken , w1 w1",
-            "r s ; a b ; w0 w1 ; w0 w0 , w0 broken / w0 broken , w1 w1", "r s ; a b ; w0 ; w0 w0 , w0 broken"]])
+            "r s ; a b ; w0 w1 ; w0 w0 , w0 broken / w0 broken , w1 w1", "r s ; a b ; w0 ; w0 w0 , w0 broken",
+            # The places are the same ones, told in another order.
+            "r s ; a b ; w1 w0 ; w0 broken , w1 w1 / w0 w1 , w0 broken",
+            "s r ; a b ; w0 w1 ; w0 broken , w0 w1 / w1 w1 , w0 broken",
+            "r s ; b a ; w0 w1 ; w1 w0 , broken w0 / broken w0 , w1 w1"]])
         self.assertEqual(Watch.read(TEXT), Watch(("r", "s"), ["a", "b"], (
             ["w0", (["w0", "w1"], ("w0", "broken"))], ["w1", [["w0", "broken"], ["w1", "w1"]]])))
 

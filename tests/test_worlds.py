@@ -139,7 +139,9 @@ class Worlds(Case):
                  "left right ; p l q r x x ; p ; p , x / x , q / x , x",
                  "left right ; p l q r x l ; p q ; p , x / x , q / x , x",
                  "left right ; p l q r x x ; p q ; p q , x / x , q / x , x",
-                 "left right ; q r p l x x ; q p ; x , q / p , x / x , x"]
+                 "left right ; q r p l x x ; q p ; x , q / p , x / x , x",
+                 "right left ; p l q r x x ; p q ; x , p / q , x / x , x",
+                 "left right ; p l x x q r ; p q ; p , x / x , x / x , q"]
         self.same([World.read(text) for text in texts])
         self.assertEqual(World.read(DRIFT), drift())
         self.assertEqual(World(["d"], [("s", "l", [["t", "s"]]), ("t", "l", [["s"]])], ["t", "s"]),
