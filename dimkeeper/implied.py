@@ -123,7 +123,8 @@ def breaks_endlessly(watch, reading, ring):
     # Once a round begins where an earlier one began, nothing new comes.
     while place != Watch.BROKEN and place not in begun:
         begun[place] = True
-        place = watch.begun(place).after(reading[ring:])
+        for label, deed in reading[ring:]:
+            place = watch.place_behind(place, label, deed)
     return place == Watch.BROKEN
 
 

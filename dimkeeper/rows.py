@@ -62,7 +62,7 @@ def way_of(world, row):
     return first_path(layers_of(world, row), lambda at, state: world.nexts(state, row[2 * at + 1]))
 
 
-def check_many(world, many):
+def check_asked(world, many):
     """Raises what is told of a world and a number of deeds."""
     check_world(world, "world")
     if not is_within(many, 0, None):
@@ -71,7 +71,7 @@ def check_many(world, many):
 
 def rows_of(world, many):
     """Yields the given rows with so many deeds."""
-    check_many(world, many)
+    check_asked(world, many)
     if many > MOST_YIELDED:
         raise TooMany("deeds", MOST_YIELDED)
     for label, states in by_label(world, world.starts):
@@ -93,7 +93,7 @@ def longer_rows(world, row, states, many):
 
 def count_rows(world, many):
     """How many rows with so many deeds a world gives."""
-    check_many(world, many)
+    check_asked(world, many)
     if many > MOST_COUNTED:
         raise TooMany("deeds", MOST_COUNTED)
     # Just one set of states stands behind each row, so rows are counted by these sets.
