@@ -6,6 +6,7 @@ LETTERS = "abcdefghijklmnopqrstuvwxyz"
 DIGITS = "0123456789"
 MOST_STEMS = 6
 MOST_CHARACTERS = 12
+GREATEST_NAME = "zzzzzzzzzzzz.zzzzzzzzzzzz.zzzzzzzzzzzz.zzzzzzzzzzzz.zzzzzzzzzzzz.zzzzzzzzzzzz"
 
 
 def is_integer(value):

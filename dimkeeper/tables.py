@@ -1,6 +1,6 @@
 """Tables: what a notebook tells for a page and a sight."""
 
-from dimkeeper.checks import are_named, are_names, is_integer, is_name, is_row, is_within, twice
+from dimkeeper.checks import GREATEST_NAME, are_named, are_names, is_integer, is_name, is_row, is_within, twice
 from dimkeeper.errors import BadTable, NoEntry, TooMany
 from dimkeeper.reader import Reader
 
@@ -90,7 +90,7 @@ class Table:
         reader.take_mark(":")
         entries = [read_entry(reader, pages, (1, ""))]
         while reader.due() is not None:
-            reader.need(len(entries) < cls.MOST_ENTRIES)
+            reader.need(len(entries) < cls.MOST_ENTRIES and least_page_behind(entries[-1]) <= pages)
             reader.take_mark("/")
             entries.append(read_entry(reader, pages, entries[-1]))
         return cls(pages, entries)
@@ -105,9 +105,14 @@ def is_entry_of(pages, value):
     return is_name(value[1]) and is_name(value[2])
 
 
+def least_page_behind(last):
+    """The least page of a cell that comes behind the last one: no sight comes behind the greatest name."""
+    return last[0] + 1 if last[1] == GREATEST_NAME else last[0]
+
+
 def read_entry(reader, pages, last):
     """The entry that is due, the cell of which comes behind that of the last one."""
-    page = reader.take_number(last[0], pages)
+    page = reader.take_number(least_page_behind(last), pages)
     reader.need(is_name(reader.due()))
     sight = reader.take(page > last[0] or reader.due() > last[1])
     deed = reader.take_name()

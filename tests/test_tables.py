@@ -146,6 +146,15 @@ class Tables(Case):
             else:
                 self.fails(BadText(0, word), Table.read, text)
 
+    def test_no_cell_comes_behind_the_greatest_name(self):
+        name = ".".join(["z" * 12] * 6)
+        self.reads(Table, Table(2, [(1, name, "a", 1), (2, "r", "a", 1), (2, name, "a", 1)]))
+        self.fails(BadText(0, 6), Table.read, f"1 : 1 {name} a 1 / 1 r a 1")
+        self.fails(BadText(0, 6), Table.read, f"1 : 1 {name} a 1 /")
+        self.fails(BadText(0, 7), Table.read, f"2 : 1 {name} a 1 / 1 r a 1")
+        self.fails(BadText(0, 7), Table.read, f"2 : 1 {name} a 1 /")
+        self.fails(BadText(0, 8), Table.read, f"2 : 1 {name[:-1]} a 1 / 1 r a 1")
+
     def test_texts_of_too_many(self):
         rows = [f"{page} {sight} a 1" for page in range(1, 201) for sight in sorted(names("s", 11))]
         text = "200 : " + " / ".join(rows[:2000])
