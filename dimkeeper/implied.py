@@ -5,6 +5,7 @@ from dimkeeper.errors import BadPaper
 from dimkeeper.judged import settled
 from dimkeeper.lassos import closed_reading
 from dimkeeper.papers import Denial, Paper, is_called
+from dimkeeper.round_lassos import ring_of_rounds
 from dimkeeper.short_lassos import shorter_reading
 from dimkeeper.watches import Watch, check_fitting
 from dimkeeper.worlds import World
@@ -73,6 +74,9 @@ def apart_at(calm, other, ahead, pair):
     whole, ring = closed_reading(calm, run[::-1], reading[::-1])
     if len(whole) > MOST_TOLD:
         whole, ring = shorter_reading(calm, other, whole, ring)
+    if len(whole) > MOST_TOLD:
+        found = ring_of_rounds(calm, other, MOST_TOLD)
+        whole, ring = (whole, ring) if found is None else found
     return Apart(whole, ring)
 
 

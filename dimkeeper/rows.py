@@ -101,13 +101,18 @@ def count_rows(world, many):
     met = {}
     meet_sets(met, counts)
     for _ in range(many):
-        longer = {}
-        for states, count in counts.items():
-            for behind in sets_behind(world, met, states):
-                longer[behind] = longer.get(behind, 0) + count
-        counts = longer
+        counts = longer_counts(world, met, counts)
         meet_sets(met, counts)
     return sum(list(counts.values()))
+
+
+def longer_counts(world, met, counts):
+    """How many rows with one deed more each set stands behind, counts telling this for the rows ahead."""
+    longer = {}
+    for states, count in counts.items():
+        for behind in sets_behind(world, met, states):
+            longer[behind] = longer.get(behind, 0) + count
+    return longer
 
 
 def meet_sets(met, counts):

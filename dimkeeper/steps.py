@@ -129,15 +129,21 @@ def ranks_of(branches):
     lost = [view for view in branches if unbeaten[view] == 0]
     rank = 1
     while lost:
-        more = []
         for view in lost:
             ranks[view] = rank
-            for user in beats[view]:
-                if user not in beaten:
-                    beaten[user] = True
-                    unbeaten[user[0]] -= 1
-                    if unbeaten[user[0]] == 0:
-                        more.append(user[0])
-        lost = more
+        users = [user for view in lost for user in beats[view]]
+        lost = lost_by(users, beaten, unbeaten)
         rank += 1
     return ranks
+
+
+def lost_by(users, beaten, unbeaten):
+    """The views that are lost because these deeds, pairs of a view and a place, are beaten, too."""
+    lost = []
+    for user in users:
+        if user not in beaten:
+            beaten[user] = True
+            unbeaten[user[0]] -= 1
+            if unbeaten[user[0]] == 0:
+                lost.append(user[0])
+    return lost

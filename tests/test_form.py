@@ -44,6 +44,66 @@ def bound_names(function):
     return names
 
 
+CHANGING = set("append clear extend insert pop remove reverse setdefault update add discard".split())
+
+
+def same_as(value):
+    """The texts of the names, attributes and items that may be this very value."""
+    if isinstance(value, ast.IfExp):
+        return same_as(value.body) | same_as(value.orelse)
+    if isinstance(value, ast.BoolOp):
+        return set().union(*map(same_as, value.values))
+    return {ast.unparse(value)} if isinstance(value, (ast.Name, ast.Attribute, ast.Subscript)) else set()
+
+
+def other_names(function):
+    """The pairs of texts of which one is given to the other in a function, as it is."""
+    for node in ast.walk(function):
+        if isinstance(node, ast.Assign):
+            for target in node.targets:
+                pairs = [(target, node.value)]
+                if isinstance(target, ast.Tuple) and isinstance(node.value, ast.Tuple):
+                    pairs = zip(target.elts, node.value.elts)
+                for one, value in pairs:
+                    yield from ((ast.unparse(one), other) for other in same_as(value))
+
+
+def changed_in(loop):
+    """The texts of what a loop changes."""
+    for node in ast.walk(loop):
+        if isinstance(node, ast.Call) and isinstance(node.func, ast.Attribute) and node.func.attr in CHANGING:
+            yield from same_as(node.func.value)
+        if isinstance(node, ast.Call) and isinstance(node.func, ast.Name) and node.func.id.startswith("heap"):
+            yield from same_as(node.args[0])
+        if isinstance(node, ast.Subscript) and isinstance(node.ctx, (ast.Store, ast.Del)):
+            yield from same_as(node.value)
+        if isinstance(node, ast.AugAssign) and isinstance(node.value, (ast.List, ast.ListComp)):
+            yield from same_as(node.target)
+
+
+def walked_by(over):
+    """The texts of what a loop goes over, also through enumerate, zip and the like."""
+    if isinstance(over, ast.Call) and isinstance(over.func, ast.Name) and over.func.id in ("enumerate", "zip", "reversed"):
+        return set().union(*map(walked_by, over.args))
+    if isinstance(over, ast.Call) and isinstance(over.func, ast.Attribute) and over.func.attr in ("items", "keys", "values"):
+        return walked_by(over.func.value)
+    return same_as(over)
+
+
+def walked_and_changed(function):
+    """What a loop of a function goes over and changes, by this name or by another one."""
+    groups = {}
+    for one, other in other_names(function):
+        merged = groups.get(one, {one}) | groups.get(other, {other})
+        groups.update({name: merged for name in merged})
+    found = []
+    for node in ast.walk(function):
+        if isinstance(node, ast.For):
+            changed = set(changed_in(node))
+            found += [over for over in walked_by(node.iter) if groups.get(over, {over}) & changed]
+    return found
+
+
 class Form(unittest.TestCase):
 
     def each(self, *kinds):
@@ -213,6 +273,21 @@ class Form(unittest.TestCase):
                     self.assertNotEqual(ast.unparse(each.func.value), over, (name, node.lineno))
                 if isinstance(each, ast.Subscript) and isinstance(each.ctx, ast.Store):
                     self.assertNotEqual(ast.unparse(each.value), over, (name, node.lineno))
+
+    def test_what_is_walked_has_no_other_name_by_which_it_is_changed(self):
+        for name, node in self.each(ast.FunctionDef):
+            self.assertEqual(walked_and_changed(node), [], name)
+
+    def test_other_names_of_what_is_walked_are_found(self):
+        for rows in ("for x in xs: ys.append(x)\nxs = ys", "ys = xs\nfor x in xs: ys.append(x)",
+                     "for k, v in xs.items(): ys[k] = v\nxs = ys", "for x in ys: xs.pop()\nxs, k = ys, 1",
+                     "for x in xs: del ys[x]\nxs = ys if k else []", "for x in xs: box.ys.append(x)\nxs = box.ys",
+                     "for at, x in enumerate(xs): heappush(ys, x)\nys = k or xs", "for x in xs: ys += [x]\nxs = zs = ys",
+                     "zs = xs\nys = zs\nfor x in xs: ys.append(x)", "for x in xs:\n  for y in x: x.append(y)"):
+            self.assertTrue(walked_and_changed(ast.parse(rows)), rows)
+        for rows in ("for x in xs: ys.append(x)\nxs = list(ys)", "for x in list(xs): ys.append(x)\nxs = ys",
+                     "for x in xs: zs.append(x)\nxs = ys", "for x in xs: ys[x].append(x)\nxs = sorted(ys)"):
+            self.assertEqual(walked_and_changed(ast.parse(rows)), [], rows)
 
     def test_two_lambdas_do_not_stand_on_one_line(self):
         lines = [(name, node.lineno) for name, node in self.each(ast.Lambda)]
