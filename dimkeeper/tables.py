@@ -96,6 +96,21 @@ class Table:
         return cls(pages, entries)
 
 
+def check_table(value, part):
+    """Raises BadTable unless the value is a table."""
+    if not isinstance(value, Table):
+        raise BadTable(part)
+
+
+def is_table(pages, entries):
+    """Whether a table of these pages and entries can be made."""
+    if not is_within(pages, 1, Table.MOST_PAGES) or not is_row(entries):
+        return False
+    if not 1 <= len(entries) <= Table.MOST_ENTRIES or not all([is_entry_of(pages, entry) for entry in entries]):
+        return False
+    return not twice([(entry[0], entry[1]) for entry in entries])
+
+
 def is_entry_of(pages, value):
     """Whether a value is an entry of a table of so many pages."""
     if not is_row(value) or len(value) != 4:
