@@ -18,8 +18,11 @@ class Refusal(Denial):
 
 def refusal(task, k):
     """The Refusal of k pages with the whole search as its tree, or None if a table of at most k pages holds."""
-    if first_kept(task, k) is not None:
-        return None
+    return refused(task, k) if first_kept(task, k) is None else None
+
+
+def refused(task, k):
+    """The Refusal of k pages, for which it is known that no table holds."""
     return Refusal(k, whole_tree(Search(task, k)))
 
 
