@@ -58,7 +58,7 @@ class Pairs:
 
     def first_pairs(self):
         """The pairs of the starts, in order."""
-        return [(state, self.sets.begun.get(self.one.label_of(state), ())) for state in self.one.starts]
+        return [(state, self.sets.firsts.get(self.one.label_of(state), ())) for state in self.one.starts]
 
     def behind(self, pair):
         """The pairs to which a pair leads, by deeds, then by states; None if its set is empty."""

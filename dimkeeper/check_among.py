@@ -1,7 +1,7 @@
 """Whether a Shared or a Parting is right."""
 
 from dimkeeper.among import Parting, Shared, check_comparable
-from dimkeeper.checks import is_name, is_one_of, is_pair
+from dimkeeper.checks import is_one_of, is_pair
 from dimkeeper.papers import is_called
 from dimkeeper.rows import states_behind, with_label
 
@@ -32,19 +32,20 @@ def is_right_shared(one, other, pairs):
     """Whether pairs hold one for each start, and for each next state of each of their states."""
     if not isinstance(pairs, tuple) or not all([is_shared_pair(one, other, pair) for pair in pairs]):
         return False
-    told = {}
+    rows = {state: [] for state in one.states}
     for state, states in pairs:
-        told.setdefault(state, {})[states] = True
-    if not all([has_within(told.get(start, {}), other.starts) for start in one.starts]):
+        rows[state].append(states)
+    if not all([has_within(rows[start], other.starts) for start in one.starts]):
         return False
-    met = {pair: True for pair in pairs}
-    behind = {}
-    for state, states in met:
+    afters = {(states, deed): {} for state, states in pairs for deed in one.deeds}
+    for state, states in pairs:
         for deed in one.deeds:
-            if (states, deed) not in behind:
-                behind[states, deed] = states_behind(other, states, deed)
-            if not all([has_within(told.get(after, {}), behind[states, deed]) for after in one.nexts(state, deed)]):
-                return False
+            for after in one.nexts(state, deed):
+                afters[states, deed][after] = True
+    for states, deed in afters:
+        behind = states_behind(other, states, deed)
+        if not all([has_within(rows[after], behind) for after in afters[states, deed]]):
+            return False
     return True
 
 
@@ -57,9 +58,7 @@ def has_within(rows, states):
 def is_right_way(one, value):
     """Whether the row of a Parting is one, and its way shows it from a start on."""
     row, way = value.row, value.way
-    if not isinstance(row, tuple) or len(row) % 2 == 0 or not all([is_name(name) for name in row]):
-        return False
-    if not all([deed in one.deeds for deed in row[1::2]]):
+    if not isinstance(row, tuple) or len(row) % 2 == 0 or not all([deed in one.deeds for deed in row[1::2]]):
         return False
     if not are_states(one, way) or len(way) != len(row) // 2 + 1 or way[0] not in one.starts:
         return False

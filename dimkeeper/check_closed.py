@@ -39,7 +39,7 @@ def is_right_lacks(task, table, value):
     if not isinstance(value, Lacks) or not is_called(value, "Lacks") or not is_integer(value.page):
         return False
     states = value.states
-    if not isinstance(states, tuple) or not states or not all([state in task.world for state in states]):
+    if not isinstance(states, tuple) or not states:
         return False
     walks = Walks(task, table)
     spot = (states[0], 1)
@@ -81,7 +81,7 @@ def is_triple(task, value):
 
 def is_right_broken(task, table, first, states):
     """Whether the play along these states begins with this watch state and is broken at its last moment."""
-    if not isinstance(states, tuple) or not states or not all([state in task.world for state in states]):
+    if not isinstance(states, tuple) or not states:
         return False
     if not is_one_of(first, [kept for state, kept in task.standing if state == states[0]]):
         return False
@@ -130,7 +130,7 @@ def is_right_dropped(task, hands, value):
     states, places = value.states, value.places
     if not isinstance(states, tuple) or not isinstance(places, tuple) or len(states) != len(places) or not states:
         return False
-    if not all([state in task.world for state in states]) or not all([are_integers(place) for place in places]):
+    if not all([are_integers(place) for place in places]):
         return False
     if not is_one_of(value.first, [kept for state, kept in task.standing if state == states[0]]):
         return False

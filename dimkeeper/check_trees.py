@@ -34,7 +34,7 @@ def shows_refusal(task, value):
 
 
 def check_shown(task, value):
-    """Raises BadPaper unless the value is a right Refusal."""
+    """Raises BadTask for what is no task, and BadPaper unless the value is a right Refusal."""
     if not shows_refusal(task, value):
         raise BadPaper("refusal")
 

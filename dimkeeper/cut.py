@@ -4,14 +4,12 @@ from dimkeeper.check_trees import check_refusal, check_shown
 from dimkeeper.checks import is_within
 from dimkeeper.errors import BadNumbers, BadTree
 from dimkeeper.refuse import Refusal
-from dimkeeper.tasks import check_task
 from dimkeeper.tree_faults import first_fault, parts_behind, play_fault
 from dimkeeper.trees import Leaf, Need
 
 
 def cut(task, refusal):
     """The Refusal without the questions in whose place one of their trees would be right."""
-    check_task(task)
     check_shown(task, refusal)
     return Refusal(refusal.pages, cut_tree(task, refusal.pages, refusal.tree, ()))
 

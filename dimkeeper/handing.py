@@ -43,7 +43,7 @@ class Hands:
 
     def all_taken(self, place):
         """The pairs (index, page) that may be asked where this one is open: itself, and those that are taken up."""
-        return come_about((tuple(place),), lambda pair: self._taken.get(pair, ()))
+        return come_about((place,), lambda pair: self._taken.get(pair, ()))
 
     def with_taken(self, cases):
         """These cases, each followed by those that come by handings alone."""

@@ -26,7 +26,7 @@ def kept_tables(task, k):
     check_searched(task, k)
     search = Search(task, k)
     while search.goes_to_end():
-        yield search.table()
+        yield search.end_table()
 
 
 def count_kept(task, k):
@@ -50,7 +50,7 @@ def kept_at(task, k, number):
     at = 0
     while search.goes_to_end():
         if at == number:
-            return search.table()
+            return search.end_table()
         at += 1
     raise NoTable(number)
 
@@ -69,7 +69,7 @@ def number_of(task, k, table):
     check_searched(task, k)
     search = Search(task, k)
     at = 0
-    while search.goes_to_end() and search.table() != form:
+    while search.goes_to_end() and search.end_table() != form:
         at += 1
     return at
 
@@ -80,5 +80,5 @@ def first_kept(task, k):
     search = Search(task, k)
     if not search.goes_to_end():
         return None
-    table = search.table()
-    return Kept(table.pages, search.entries(), holds(task, table).triples)
+    table = search.end_table()
+    return Kept(table.pages, search.answers(), holds(task, table).triples)

@@ -5,7 +5,6 @@ from dimkeeper.closed import Broken, Lacks
 from dimkeeper.errors import BadTable
 from dimkeeper.papers import Denial
 from dimkeeper.tables import check_table
-from dimkeeper.tasks import check_task
 from dimkeeper.trees import Leaf
 from dimkeeper.walks import Walks, check_deeds_known, check_walked, walk_until, way_to
 
@@ -24,7 +23,6 @@ class Losing(Denial):
 
 def beaten(task, refusal, table):
     """What a refusal says of a table of no more pages: a Lacks or a Broken."""
-    check_task(task)
     check_shown(task, refusal)
     check_table(table, "table")
     check_deeds_known(task, table)

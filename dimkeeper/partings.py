@@ -3,19 +3,14 @@
 from dimkeeper.among import check_comparable, rows_among
 from dimkeeper.blurs import check_blur
 from dimkeeper.checks import are_names, is_name, is_row
-from dimkeeper.errors import BadRow, BadTable, NoDeed, NoLabel
+from dimkeeper.errors import BadTable, NoDeed, NoLabel
 from dimkeeper.met_watch import met_watch
+from dimkeeper.rows import check_row_told
 from dimkeeper.stands import check_labels_known
 from dimkeeper.tables import Table
 from dimkeeper.tasks import Task
 from dimkeeper.watches import check_signs
 from dimkeeper.worlds import check_world
-
-
-def check_row_told(row):
-    """Raises BadRow unless this is an odd number of names."""
-    if not is_row(row) or len(row) % 2 == 0 or not all([is_name(name) for name in row]):
-        raise BadRow("row")
 
 
 def parting_promise(row, labels, deeds):

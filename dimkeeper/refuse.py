@@ -1,6 +1,5 @@
 """Refusals: no table of so many pages holds."""
 
-from dimkeeper.errors import TooMany
 from dimkeeper.keepers import first_kept
 from dimkeeper.papers import Denial
 from dimkeeper.search import Search, check_searched
@@ -32,8 +31,6 @@ def whole_tree(search):
     told = []
     while True:
         if search.here == Search.ASK:
-            if len(told) == Need.MOST_DEPTH:
-                raise TooMany("depth", Need.MOST_DEPTH)
             told.append([])
         else:
             first, states = search.shortest_break()

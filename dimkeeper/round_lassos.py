@@ -19,13 +19,13 @@ class Rounds:
         self.last = (len(calm), len(bad))
         self.signs = different_signs(calm, bad)
         self.ways = ways_to_pairs(self.signs, self.last, most)
-        self.begun = begun_by(self.ways, self.last)
+        self.starting = begun_by(self.ways, self.last)
         self.far = [distances(self.signs, self.last[0], state) for state in range(self.last[0])]
 
-    def closed(self, does, size):
+    def closing_pair(self, does, size):
         """The pair of watch states at which a ring of this size that does this begins, or None."""
         for state in lasting_numbers(does[0]):
-            for depth, kept in self.begun[state]:
+            for depth, kept in self.starting[state]:
                 if depth + size > self.most:
                     break
                 if breaks_at_last(does[1], kept):
@@ -37,7 +37,7 @@ class Rounds:
         calm = does[0]
         alive = [state for state in range(self.last[0]) if calm[state] != self.last[0]]
         for state in alive:
-            left = self.most - size - (self.begun[state][0][0] if self.begun[state] else self.most)
+            left = self.most - size - (self.starting[state][0][0] if self.starting[state] else self.most)
             far = self.far[calm[state]]
             if left > 0 and any([far.get(back, left + 1) <= left for back in alive]):
                 return True
@@ -128,7 +128,7 @@ def ring_of_rounds(one, other, most):
     for size in range(1, most + 1):
         longer = behind_level(rounds, rows, level)
         for does in longer:
-            pair = rounds.closed(does, size)
+            pair = rounds.closing_pair(does, size)
             if pair is not None:
                 return (*rounds.ways[pair], *rows[does]), len(rounds.ways[pair])
         level = [does for does in longer if rounds.can_go_on(does, size)]

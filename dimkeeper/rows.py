@@ -10,11 +10,16 @@ MOST_COUNTED = 60
 MOST_SETS = 500
 
 
+def check_row_told(row):
+    """Raises BadRow unless the value is a list or a tuple of an odd number of names."""
+    if not is_row(row) or len(row) % 2 == 0 or not all([is_name(name) for name in row]):
+        raise BadRow("row")
+
+
 def check_row(world, row):
     """Raises what is told of a world and a row."""
     check_world(world, "world")
-    if not is_row(row) or len(row) % 2 == 0 or not all([is_name(name) for name in row]):
-        raise BadRow("row")
+    check_row_told(row)
     for deed in row[1::2]:
         if deed not in world.deeds:
             raise NoDeed(deed)

@@ -77,25 +77,24 @@ class Search:
 
     def goes_to_end(self):
         """Goes on to the next end; whether there is one."""
-        if self.here is not None:
-            self.go_on()
+        self.go_on()
         while self.here is not None and self.here != self.END:
             self.go_on()
         return self.here is not None
 
-    def entries(self):
+    def answers(self):
         """The answers above, in order."""
         return tuple([(*cell, *entry) for cell, entry in self._entries.items()])
 
-    def table(self):
+    def end_table(self):
         """The table that stands at an end."""
-        return Table(self.used, self.entries())
+        return Table(self.used, self.answers())
 
     def shortest_break(self):
         """The first stand, and the states, of the shortest play that breaks by the answers above."""
         ahead, fault = walk_until([(number, 1) for number in self.steps.begun()], lambda triple: self._led_to(triple))
         stands = [self.steps.stand_of(number) for number, page in way_to(ahead, fault)]
-        return stands[0], tuple([state for state, kept in stands])
+        return stands[0], [state for state, kept in stands]
 
     def _led_to(self, triple):
         """The triples to which a triple leads, none if its cell is not answered; None if the deed breaks."""

@@ -1,7 +1,8 @@
 """The sets of states of a world that come about, each one the states behind some row."""
 
 from dimkeeper.errors import TooMany
-from dimkeeper.rows import MOST_SETS, by_label, states_behind
+from dimkeeper.orders import order_of
+from dimkeeper.rows import MOST_SETS
 
 
 class StateSets:
@@ -12,24 +13,31 @@ class StateSets:
 
     def __init__(self, world):
         self.world = world
-        self.begun = {label: states for label, states in by_label(world, world.starts)}
+        self.firsts = shared_out(world, world.starts)
+        order = order_of(world.states)
+        # The next states as bits, so that those of many states are soon put together.
+        self._bits = {(state, deed): sum([1 << order[after] for after in world.nexts(state, deed)])
+                      for state in world.states for deed in world.deeds}
         self._behind = {}
 
     def behind(self, states, deed):
         """The sets to which a set leads by a deed, by their labels ascending."""
         if (states, deed) not in self._behind:
-            rows = by_label(self.world, states_behind(self.world, states, deed))
-            self._behind[states, deed] = {label: group for label, group in rows}
+            bits = 0
+            for state in states:
+                bits = bits | self._bits[state, deed]
+            reached = [state for at, state in enumerate(self.world.states) if bits >> at & 1]
+            self._behind[states, deed] = shared_out(self.world, reached)
         return self._behind[states, deed]
 
     def all_sets(self, most):
-        """All of them, as they are met; TooMany for more than most, None is no bound."""
+        """All of them, as they are met; TooMany for more than most."""
         met = {(state,): True for state in self.world.states}
-        for states in self.begun.values():
+        for states in self.firsts.values():
             met[states] = True
         due = list(met)
         while due:
-            if most is not None and len(met) > most:
+            if len(met) > most:
                 raise TooMany("sets", most)
             states = due.pop()
             for deed in self.world.deeds:
@@ -38,6 +46,14 @@ class StateSets:
                         met[group] = True
                         due.append(group)
         return list(met)
+
+
+def shared_out(world, states):
+    """For each label of these states, ascending, the tuple of those that have it."""
+    groups = {}
+    for state in states:
+        groups.setdefault(world.label_of(state), []).append(state)
+    return {label: tuple(groups[label]) for label in sorted(groups)}
 
 
 def check_sets(sets):

@@ -63,6 +63,13 @@ def more_states(world, many):
                  world.starts)
 
 
+def random_pair(chance, alike=0.5):
+    """Two small worlds with the same deeds; often they are alike but for the numbers of their states."""
+    one = random_world(chance, 3, 2, 2)
+    other = split_world(chance, one) if chance.random() < alike else same_deeds(chance, one, most_states=4, most_labels=2)
+    return (other, one) if chance.random() < 0.3 else (one, other)
+
+
 class Among(Case):
 
     def test_example(self):
@@ -83,10 +90,7 @@ class Among(Case):
     def test_by_hand(self):
         seen = {}
         for chance in chances(300):
-            one = random_world(chance, 3, 2, 2)
-            other = split_world(chance, one) if chance.random() < 0.5 else same_deeds(chance, one, most_states=4, most_labels=2)
-            if chance.random() < 0.3:
-                one, other = other, one
+            one, other = random_pair(chance)
             pairs = pairs_by_hand(one, other)
             paper = rows_among(one, other)
             self.assertEqual(paper, rows_among(one, other))
@@ -136,8 +140,7 @@ class Among(Case):
         # Where the rows of one are among those of other, what holds in other holds in one.
         seen = set()
         for chance in chances(200):
-            one = random_world(chance, 3, 2, 2)
-            other = split_world(chance, one) if chance.random() < 0.6 else same_deeds(chance, one, most_states=3, most_labels=2)
+            one, other = random_pair(chance, 0.6)
             labels = sorted({*one.labels, *other.labels})
             rows = [("w", [[chance.choice(["w", "v", "broken"]) for _ in one.deeds] for _ in labels]),
                     ("v", [[chance.choice(["w", "v", "v"]) for _ in one.deeds] for _ in labels])]
@@ -180,6 +183,12 @@ class Among(Case):
         for told in ((small, over), (over, small), (over, over)):
             self.fails(TooMany("sets", 500), worlds_alike, *told)
         self.fails(TooMany("sets", 500), rows_among, small, set_world(9))
+        # Both are counted, also where the rows of the one are not among those of the other.
+        odd = World(small.deeds, [("s", "m", [["s"]] * 3)], ["s"])
+        self.fails(TooMany("sets", 500), worlds_alike, over, odd)
+        self.fails(TooMany("sets", 500), worlds_alike, odd, over)
+        self.fails(TooMany("sets", 500), rows_among, odd, over)
+        self.assertFalse(rows_among(over, odd))
 
     def test_errors(self):
         for call in (rows_among, worlds_alike, lambda *told: shows_among(*told, None)):

@@ -1,6 +1,6 @@
 from bending import bent
-from common import Case, chances, of_every_kind, other_class, random_world
-from test_among import GARDEN, STILL, TWICE, same_deeds, set_world, split_world
+from common import Case, chances, of_every_kind, other_class
+from test_among import GARDEN, STILL, TWICE, random_pair, set_world
 
 from dimkeeper.among import Parting, Shared, rows_among
 from dimkeeper.check_among import shows_among
@@ -56,10 +56,7 @@ class CheckAmong(Case):
     def test_bent_papers(self):
         seen = {}
         for chance in chances(400):
-            one = random_world(chance, 3, 2, 2)
-            other = split_world(chance, one) if chance.random() < 0.5 else same_deeds(chance, one, most_states=3, most_labels=2)
-            if chance.random() < 0.5:
-                one, other = other, one
+            one, other = random_pair(chance)
             paper = rows_among(one, other)
             others = [*one.states, *other.states, *one.labels, *other.labels, *one.deeds, (), 1, None, "Odd", other.states,
                       *paper.parts[0]]
@@ -101,13 +98,28 @@ class CheckAmong(Case):
                 (("f", "left", "l", "left", "f"), ("fa", "a", "fa"), (("fb",), ("x",), ()), True),
                 (("f", "left", "l", "left", "f"), ("fa", "a", "fa"), (("fb",), ("b",), ()), False),
                 (("f", "up", "l"), ("fa", "a"), (("fb",), ()), False), (("f", "left"), ("fa",), (("fb",),), False),
-                (("f", "left", "l"), ("fa", "a"), ((), ()), False)]:
+                (("f", "left", "l"), ("fa", "a"), ((), ()), False), (("x",), ("x",), ((),), False),
+                (("f", "right", "x"), ("fb", "x"), (("fb",), ()), False), (("f", "right", "x"), ("fa", "x"), (("fb",), ()), True),
+                (("f",), ("fa",), ((),), False), ((), (), (), False), (("F",), ("fa",), ((),), False)]:
             self.assertIs(shows_among(one, other, Parting(row, way, sets)), right, (row, way, sets))
+
+    def test_ways_from_a_start(self):
+        one, other = GARDEN.begun("fa"), GARDEN.begun("x")
+        for way, right in ((("fa",), True), (("fb",), False), (("a",), False), (("fa", "a"), False), ((), False)):
+            self.assertIs(shows_among(one, other, Parting(["f"], way, [()])), right)
 
     def test_any_values(self):
         class Lower(Shared):
             pass
+
+        class LowerParting(Parting):
+            pass
         pairs = (("o", ("p",)), ("o", ("q",)))
+        one, other = GARDEN.begun("a"), GARDEN.begun("b")
+        self.assertIs(shows_among(one, other, Parting(["l"], ["a"], [()])), True)
+        for value in (LowerParting(["l"], ["a"], [()]), Denial("parting", ["l"], ["a"], [()]),
+                      other_class("Parting", row=("l",), way=("a",), sets=((),))):
+            self.assertIs(shows_among(one, other, value), False)
         self.assertIs(shows_among(STILL, TWICE, Shared(pairs)), True)
         for value in of_every_kind() + [Lower(pairs), Paper("shared", pairs), other_class("Shared", pairs=pairs), pairs,
                                         Denial("parting", ["l"], ["o"], [()])]:

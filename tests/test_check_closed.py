@@ -218,6 +218,27 @@ class CheckClosed(Case):
         self.assertFalse(shows_holds(task, FLAT, Broken("x", ["o"])))
         self.assertFalse(shows_holds(task, FLAT, Broken("x", ["o", "o", "o"])))
         self.assertFalse(shows_holds(TASK, FLAT, Broken("y", ["o"])))
+        self.assertFalse(shows_holds(TASK, table, Broken("x", ["o", "o"])))
+        self.assertFalse(shows_holds(TASK, table, Broken("x", ["o", "q"])))
+        self.assertFalse(shows_holds(TASK, table, Lacks(2, "r", ["o", "q"])))
+
+    def test_longer_plays_with_handings(self):
+        third = Table(1, [(1, "r", "a", 1)])
+        tables, handings = [TABLE, LATE, third], [(0, 2, 1, 1), (1, 1, 2, 1)]
+        for states, places, right in [
+                ("oo", ((0, 1), (2, 1)), True), ("oq", ((0, 1), (2, 1)), False), ("ooo", ((0, 1), (2, 1), (2, 1)), False),
+                ("oo", ((0, 1), (0, 2)), False), ("o", ((0, 1),), False), ("oooo", ((0, 1), (0, 2), (0, 1), (2, 1)), True),
+                ("ooo", ((0, 1), (1, 1), (1, 2)), False), ("oooo", ((0, 1), (1, 1), (1, 2), (2, 1)), True),
+                ("oooo", ((0, 1), (1, 1), (1, 2), (1, 1)), False),
+                ("oo", ((0, 1), (2, True)), False), ("oo", ((0, 1), (2, 1.0)), False), ("oo", ((0, 1), (2, 1, 1)), False),
+                ("oo", ((0, 1), (3, 1)), False), ("oo", ((2, 1), (2, 1)), False), ("oo", ((0, 1),), False), ("", (), False),
+                ("qo", ((0, 1), (2, 1)), False)]:
+            self.assertIs(shows_handed(TASK, tables, handings, Dropped("x", list(states), places)), right, (states, places))
+        self.assertIs(shows_handed(TASK, tables, handings, Dropped("y", ["o", "o"], ((0, 1), (2, 1)))), False)
+        # A cell that lacks its entry stops a play; nothing comes behind it.
+        gone = [Table(2, [(1, "r", "a", 2)])]
+        self.assertIs(shows_handed(TASK, gone, [], Dropped("x", ["o", "o"], [(0, 1), (0, 2)])), True)
+        self.assertIs(shows_handed(TASK, gone, [], Dropped("x", ["o", "o", "o"], [(0, 1), (0, 2), (0, 1)])), False)
 
     def test_any_values(self):
         class Lower(Serves):
@@ -225,6 +246,32 @@ class CheckClosed(Case):
 
         class LowerStill(Broken):
             pass
+
+        class LowerHolds(Holds):
+            pass
+
+        class LowerLacks(Lacks):
+            pass
+
+        class LowerHanded(Handed):
+            pass
+
+        class LowerDropped(Dropped):
+            pass
+        rows, drop = handed(TASK, [TABLE], []).closed, handed(TASK, [FLAT], []).parts
+        for value in (LowerHanded(rows), other_class("Handed", closed=rows), Paper("handed", rows)):
+            self.assertIs(shows_handed(TASK, [TABLE], [], value), False)
+        for value in (LowerDropped(*drop), Denial("dropped", *drop),
+                      other_class("Dropped", first=drop[0], states=drop[1], places=drop[2])):
+            self.assertIs(shows_handed(TASK, [FLAT], [], value), False)
+        self.assertIs(shows_handed(TASK, [TABLE], [], Handed(rows)) and shows_handed(TASK, [FLAT], [], Dropped(*drop)), True)
+        gone = Table(2, [(1, "r", "a", 2)])
+        for value in (LowerLacks(2, "r", ["o", "o"]), Denial("lacks", 2, "r", ["o", "o"]),
+                      other_class("Lacks", page=2, sight="r", states=("o", "o"))):
+            self.assertIs(shows_holds(TASK, gone, value), False)
+            self.assertIs(shows_serves(TASK, gone, value), False)
+        self.assertIs(shows_holds(TASK, FLAT, other_class("Broken", first="x", states=("o", "o"))), False)
+        self.assertIs(shows_holds(TASK, TABLE, LowerHolds(holds(TASK, TABLE).triples)), False)
         triples = (("o", 1, "x"), ("o", 2, "y"))
         for value in of_every_kind() + [Lower([("o", 1), ("o", 2)]), Paper("serves", [("o", 1), ("o", 2)]), triples,
                                         Paper("holds", triples), other_class("Holds", triples=triples),

@@ -86,6 +86,10 @@ class Cuts(Case):
         self.gives(Refusal(2, narrow), fewer, Refusal(3, narrow), 2)
         self.gives(Refusal(1, Need(1, "r", [[leaf]])), fewer, Refusal(3, narrow), 1)
         self.fails(BadTree("pages"), fewer, Refusal(3, narrow), 3)
+        # Behind page 1 two trees are right still, and behind page 2 three, whatever came before.
+        early = Need(1, "r", [[Need(1, "s", [[leaf, Need(2, "s", [[leaf] * 3])]]), leaf]])
+        self.gives(Refusal(3, early), fewer, Refusal(3, early), 3)
+        self.fails(BadTree("pages"), fewer, Refusal(4, Need(1, "r", [[leaf, Need(1, "s", [[Need(1, "t", [[leaf] * 2])] * 3])]])), 4)
         # More trees than are right are left out, whatever they are.
         wide = Need(5, "q", [[leaf, Leaf("w9", ["z"]), deep(3)], [leaf] * 7])
         self.gives(Refusal(3, Need(5, "q", [[leaf, Leaf("w9", ["z"])], [leaf] * 2])), fewer, Refusal(3, Need(5, "q", [

@@ -1,7 +1,7 @@
 import itertools
 
 from common import Case, chances, names, of_every_kind, random_world
-from test_among import GARDEN, STILL, TWICE, same_deeds, set_world, split_world
+from test_among import GARDEN, STILL, TWICE, random_pair, set_world
 
 from dimkeeper.among import rows_among
 from dimkeeper.blurs import Blur
@@ -62,8 +62,7 @@ class Partings(Case):
     def test_turned_by_hand(self):
         seen = {}
         for chance in chances(200):
-            one = random_world(chance, 3, 2, 2)
-            other = split_world(chance, one) if chance.random() < 0.4 else same_deeds(chance, one, most_states=4, most_labels=2)
+            one, other = random_pair(chance)
             labels = sorted({*one.labels, *other.labels, "more"})
             blur = Blur({label: chance.choice(["x", "y"]) for label in labels})
             paper = rows_among(one, other)
@@ -160,6 +159,11 @@ class Partings(Case):
         self.fails(NoLabel("r"), turned, GARDEN, STILL, Blur.alike(["l"]))
         self.fails(NoLabel("r"), turned, STILL, GARDEN, Blur.alike(["l"]))
         self.fails(NoLabel("l"), turned, STILL, GARDEN, Blur.alike(["r"]))
+        # Labels of states that do not come about are asked for, too.
+        more = World(STILL.deeds, [("o", "l", [["o"], ["o"]]), ("p", "z", [["o"], ["o"]])], ["o"])
+        self.fails(NoLabel("z"), turned, more, STILL, Blur.alike(["l"]))
+        self.fails(NoLabel("z"), turned, STILL, more, Blur.alike(["l"]))
+        self.assertIsNone(turned(more, STILL, Blur.alike(["l", "z"])))
         wide = set_world(9)
         small = World(wide.deeds, [("o", "l", [["o"]] * 3)], ["o"])
         self.fails(TooMany("sets", 500), turned, small, wide, Blur.alike(["l"]))

@@ -90,6 +90,12 @@ class Plays(Case):
                    Play(TASK.changed(watch=anything(["r"], ["a", "b"])), TABLE, ["o"]),
                    Play(TASK.changed(blur=Blur.alike(["r"])), Table(1, [(1, "dark", "a", 1)]), ["o"]),
                    Play(TASK, Table(2, [(2, "r", "a", 2), (1, "r", "a", 2)]), ["o"] * 3)])
+        free = SEEN.changed(standing=[("u", "w0"), ("s", "w0"), ("t", "w0"), ("v", "w0")])
+        flat = Table(1, [(1, "l", "a", 1), (1, "m", "a", 1)])
+        self.same([Play(free, flat, told) for told in (["s", "s"], ["s", "t"], ["t", "t"], ["u", "v"], ["v", "v"])])
+        self.same([Play(free, table, ["s", "s"]) for table in (
+            flat, Table(2, [(1, "l", "a", 2), (2, "l", "a", 1)]), Table(2, [(1, "l", "a", 2)]))])
+        self.same([Play(free, Table(1, [(1, "m", deed, 1)]), ["v", "v"]) for deed in "ab"])
         # What makes the same play is equal, though it was made of other things.
         self.assertEqual(Play(TASK, TABLE, ["o"]), Play(TASK, FLAT, ("o",), "x"))
 
