@@ -24,7 +24,7 @@ def check_refusal(value):
 
 def fault_in(task, tree, k):
     """The pair (answers above, what) of the first question or leaf at fault in a tree for k pages, or None."""
-    return first_fault(task, k, tree, (), lambda where, leaf, above: play_fault(where, leaf, above))
+    return first_fault(task, k, tree, (), play_fault)
 
 
 def shows_refusal(task, value):

@@ -20,7 +20,7 @@ def cut_tree(task, k, tree, above):
         return tree
     parts = [cut_tree(task, k, part, answers) for answers, part in parts_behind(task, tree, above)]
     for part in parts:
-        if first_fault(task, k, part, above, lambda where, leaf, answers: play_fault(where, leaf, answers)) is None:
+        if first_fault(task, k, part, above, play_fault) is None:
             return part
     width = len(tree.parts[0])
     return Need(tree.page, tree.sight, [parts[at:at + width] for at in range(0, len(parts), width)])

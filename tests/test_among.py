@@ -109,7 +109,10 @@ class Among(Case):
             seen[key] = seen.get(key, 0) + 1
             back = all(among for _, among in pairs_by_hand(other, one))
             self.gives(key == "shared" and back, worlds_alike, one, other)
+            seen[key == "shared", back] = True
         self.assertTrue({"shared", 0, 1, 2} <= set(seen), seen)
+        # Alike, among one another's one way only, and neither way.
+        self.assertTrue({(mine, back) for mine in (True, False) for back in (True, False)} <= set(seen), seen)
 
     def test_long_parting_rows(self):
         # Two rings of 3 and of 4 states, of which one shows another label; they differ at the third moment.

@@ -5,7 +5,7 @@ from test_check_kept import kept_is_right
 from test_check_trees import fault_by_hand
 from test_keepers import APART, BY_TURNS, free_task
 from test_refuse import chain_task
-from test_views import subset_task
+from test_views import ring_task, subset_task
 
 from dimkeeper.blurs import Blur
 from dimkeeper.check_kept import shows_kept
@@ -149,6 +149,10 @@ class LeastPages(Case):
     def test_many_views_and_choices(self):
         self.fails(TooMany("views", 1000), least_pages, subset_task(10))
         self.assertTrue(least_pages(subset_task(9)))
+        # 125 states and 8 watch states make 1,000 views, 143 and 7 make 1,001.
+        self.assertEqual(least_pages(ring_task(125, 8)).number, 1)
+        self.assertEqual(least_pages(ring_task(125, 8, True)).number, 8)
+        self.fails(TooMany("views", 1000), least_pages, ring_task(143, 7))
         # Seven deeds in turn are held by seven pages: the choices with 6 pages are too many.
         long = word_task("aaaaaab")
         self.assertTrue(choices(long, 5) <= 100000 < choices(long, 6))

@@ -8,6 +8,7 @@ from dimkeeper.keepers import count_kept, first_kept
 from dimkeeper.papers import Denial, Paper
 from dimkeeper.promises import never
 from dimkeeper.refuse import Refusal, opened, refusal
+from dimkeeper.search import Search
 from dimkeeper.tasks import Task, choices
 from dimkeeper.trees import Leaf, Need, Tree
 from dimkeeper.watches import Watch
@@ -29,6 +30,18 @@ class Refusals(Case):
     def test_example(self):
         self.assertEqual([str(refusal(BY_TURNS, 1).tree), refusal(BY_TURNS, 2), opened(BY_TURNS, 1), opened(BY_TURNS, 2)],
                          ["ask 1 r ( play w0 o o / play w0 o )", None, (1, 2, 0), (2, 6, 1)])
+
+    def test_the_search_of_two_pages(self):
+        # Behind the answer a, 2 the cell (2, r) is asked: a breaks at moment 1 with both pages, b, 2 at moment 2.
+        search, told = Search(BY_TURNS, 2), []
+        while search.here is not None:
+            told.append((search.here, search.answers()))
+            search.go_on()
+        ahead = ((1, "r", "a", 2),)
+        self.assertEqual(told, [("ask", ()), ("leaf", ((1, "r", "a", 1),)), ("ask", ahead),
+                                ("leaf", ahead + ((2, "r", "a", 1),)), ("leaf", ahead + ((2, "r", "a", 2),)),
+                                ("end", ahead + ((2, "r", "b", 1),)), ("leaf", ahead + ((2, "r", "b", 2),)),
+                                ("leaf", ((1, "r", "b", 1),)), ("leaf", ((1, "r", "b", 2),))])
 
     def test_paper(self):
         paper = Refusal(2, Leaf("w", ["o"]))
