@@ -3,13 +3,13 @@
 from dimkeeper.check_trees import check_shown
 from dimkeeper.closed import Broken, Lacks
 from dimkeeper.errors import BadTable
-from dimkeeper.papers import Denial
+from dimkeeper.papers import Paper
 from dimkeeper.tables import check_table
 from dimkeeper.trees import Leaf
 from dimkeeper.walks import Walks, check_deeds_known, check_walked, walk_until, way_to
 
 
-class Losing(Denial):
+class Losing(Paper):
     """A play that breaks at its last moment, or comes there to a cell without an entry."""
 
     def __init__(self, first, states, pages, deeds, places):

@@ -122,26 +122,36 @@ def ring_of_rounds(one, other, most):
     none. One is settled."""
     rounds = Rounds(one, other, most)
     same = (tuple(range(rounds.last[0] + 1)), tuple(range(rounds.last[1] + 1)))
-    # For each thing that a row of signs can do, a shortest such row: two rows that do the same are worth the same.
-    rows = {same: ()}
+    # For each thing that a row of signs does, what a shortest such row does without its last sign, and this sign: two
+    # rows that do the same are worth the same.
+    ahead = {same: None}
     level = [same]
     for size in range(1, most + 1):
-        longer = behind_level(rounds, rows, level)
+        longer = behind_level(rounds, ahead, level)
         for does in longer:
             pair = rounds.closing_pair(does, size)
             if pair is not None:
-                return (*rounds.ways[pair], *rows[does]), len(rounds.ways[pair])
+                return (*rounds.ways[pair], *signs_to(ahead, does)), len(rounds.ways[pair])
         level = [does for does in longer if rounds.can_go_on(does, size)]
     return None
 
 
-def behind_level(rounds, rows, level):
-    """What rows with one sign more do that no row ahead does; rows keeps such a row for each."""
+def behind_level(rounds, ahead, level):
+    """What rows with one sign more do that no row ahead does; ahead keeps how each is made."""
     longer = []
     for does in level:
         for sign, step in rounds.signs:
             after = (tuple([step[0][at] for at in does[0]]), tuple([step[1][at] for at in does[1]]))
-            if after not in rows:
-                rows[after] = (*rows[does], sign)
+            if after not in ahead:
+                ahead[after] = (does, sign)
                 longer.append(after)
     return longer
+
+
+def signs_to(ahead, does):
+    """The signs of a shortest row that does this."""
+    signs = []
+    while ahead[does] is not None:
+        does, sign = ahead[does]
+        signs.append(sign)
+    return signs[::-1]

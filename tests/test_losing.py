@@ -11,7 +11,7 @@ from dimkeeper.closed import Broken, Lacks, holds
 from dimkeeper.cut import cut
 from dimkeeper.errors import BadPaper, BadTable, BadTask, Unlike
 from dimkeeper.losing import Losing, beaten, losing
-from dimkeeper.papers import Denial
+from dimkeeper.papers import Denial, Paper
 from dimkeeper.plays import Play
 from dimkeeper.refuse import Refusal, refusal
 from dimkeeper.tables import Table
@@ -62,10 +62,10 @@ class LosingTables(Case):
     def test_paper(self):
         paper = Losing("w", ["s", "t"], [1, 2], ["d"], ["w", "v"])
         self.assertEqual((paper.word, paper.parts, bool(paper), isinstance(paper, Denial)),
-                         ("losing", ("w", ("s", "t"), (1, 2), ("d",), ("w", "v")), False, True))
+                         ("losing", ("w", ("s", "t"), (1, 2), ("d",), ("w", "v")), True, False))
         self.assertEqual((paper.first, paper.states, paper.pages, paper.deeds, paper.places), paper.parts)
         self.assertEqual(Losing(places=["w", "v"], deeds=["d"], pages=[1, 2], states=["s", "t"], first="w"), paper)
-        self.same([paper, Losing("w", ["s", "t"], [1, 2], ["d", "d"], ["w", "v"]), Denial("losing", *paper.parts)])
+        self.same([paper, Losing("w", ["s", "t"], [1, 2], ["d", "d"], ["w", "v"]), Paper("losing", *paper.parts)])
 
     def test_losing_by_hand(self):
         seen = {}
