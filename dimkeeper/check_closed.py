@@ -122,7 +122,7 @@ def is_right_handed(task, hands, rows):
 def led_to(hands, case):
     """The cases to which the entry of a case and its handings lead; None if it breaks or stops."""
     behind = hands.behind(case)
-    return None if behind is None else [*hands.with_taken((case,)), *behind]
+    return None if behind is None else [*hands.taken(case), *behind]
 
 
 def is_right_dropped(task, hands, value):

@@ -45,9 +45,9 @@ class Hands:
         """The pairs (index, page) that may be asked where this one is open: itself, and those that are taken up."""
         return come_about((place,), lambda pair: self._taken.get(pair, ()))
 
-    def with_taken(self, cases):
-        """These cases, each followed by those that come by handings alone."""
-        return [(*place, case[2]) for case in cases for place in self.all_taken(case[:2])]
+    def taken(self, case):
+        """The cases to which a case leads by one handing."""
+        return [(*place, case[2]) for place in self._taken.get(case[:2], ())]
 
     def behind(self, case):
         """The cases to which the entry of a case leads, ahead of handings; None if it lacks or its deed breaks."""
@@ -91,14 +91,14 @@ def handed(task, tables, handings):
     if len(handings) > MOST_HANDINGS:
         raise TooMany("handings", MOST_HANDINGS)
     hands = Hands(task, tables, handings)
-    layer = hands.with_taken([(0, 1, number) for number in hands.steps.begun()])
     # For each case the one at the moment ahead from which it came.
-    ahead = {case: None for case in layer}
+    ahead = {}
+    layer = cases_met(hands, ahead, [((0, 1, number), None) for number in hands.steps.begun()])
     while layer:
         faults = [case for case in layer if hands.behind(case) is None]
         if faults:
             return dropped_at(hands, ahead, faults[0])
-        layer = layer_behind(hands, ahead, layer)
+        layer = cases_met(hands, ahead, [(behind, case) for case in layer for behind in hands.behind(case)])
     closed = []
     for index, page, number in sorted(ahead):
         state, kept = hands.steps.stand_of(number)
@@ -106,14 +106,17 @@ def handed(task, tables, handings):
     return Handed(closed)
 
 
-def layer_behind(hands, ahead, layer):
-    """The cases that come about first at the moment behind a layer; ahead keeps from which case each one came."""
+def cases_met(hands, ahead, firsts):
+    """The cases that come about first at one moment: these, told with what is ahead of them, and all that come from
+    them by handings."""
+    due = list(firsts)
     met = []
-    for case in layer:
-        for behind in hands.with_taken(hands.behind(case)):
-            if behind not in ahead:
-                ahead[behind] = case
-                met.append(behind)
+    while due:
+        case, last = due.pop()
+        if case not in ahead:
+            ahead[case] = last
+            met.append(case)
+            due.extend([(taken, last) for taken in hands.taken(case)])
     return met
 
 

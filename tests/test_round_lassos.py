@@ -79,6 +79,26 @@ class Rounds(Case):
         self.assertEqual((len(found[0]), found[1]), (12, 2))
         self.assertIs(shows_implied(one, other, Apart(*found)), True)
 
+    def test_two_places_in_each_round(self):
+        # Each round must read s at one place and t at another one; between them no other ring can be closed.
+        signs = ["r", "s", "t"]
+        for many, more, places in ((4, 5, (1, 3)), (3, 4, (0, 2)), (4, 3, (2, 3)), (3, 5, (1, 2))):
+            one = Watch(signs, D, [(f"c{at}", [[f"c{(at + 1) % many}"], [f"c{at}" if at == places[0] else "broken"],
+                                               [f"c{at}" if at == places[1] else "broken"]]) for at in range(many)])
+            # Other breaks at a t behind an s at d1, once it stands at d0.
+            rows = []
+            for at in range(more):
+                rows.append((f"d{at}", [[f"d{(at + 1) % more}"], [f"e{at}" if at == 1 else f"d{at}"], [f"d{at}"]]))
+                rows.append((f"e{at}", [[f"e{(at + 1) % more}"], [f"e{at}"], ["broken" if at == 0 else f"e{at}"]]))
+            other = Watch(signs, D, rows)
+            least = least_size(one, other, many + 2)
+            for most in range(1, many + 3):
+                found = ring_of_rounds(one, other, most)
+                self.assertEqual(found is None, least is None or most < least, (many, more, most))
+                if found is not None:
+                    self.assertLessEqual(len(found[0]), most)
+                    self.assertIs(shows_implied(one, other, Apart(*found)), True)
+
     def test_one_that_comes_back_late(self):
         # r turns the one between two watch states and s breaks at neither; other breaks at every sixth r.
         one = Watch(R, D, [("x", [["y"], ["broken"]]), ("y", [["x"], ["broken"]])])
