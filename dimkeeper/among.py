@@ -44,13 +44,13 @@ def rows_among(one, other):
     firsts = pairs.first_pairs()
     ahead, fault = walk_until(firsts, lambda pair: pairs.behind(pair))
     if fault is None:
-        return Shared(list(ahead))
+        return Shared([(state, sets.states_of(among)) for state, among in ahead])
     row, told = least_row(pairs, firsts)
-    return Parting(row, way_of(one, row), told)
+    return Parting(row, way_of(one, row), [sets.states_of(among) for among in told])
 
 
 class Pairs:
-    """What comes about side by side: pairs of a state of one world and a set of states of the other one."""
+    """What comes about side by side: pairs of a state of one world and a set of the other one, as StateSets has it."""
 
     def __init__(self, one, sets):
         self.one = one
@@ -58,18 +58,18 @@ class Pairs:
 
     def first_pairs(self):
         """The pairs of the starts, in order."""
-        return [(state, self.sets.firsts.get(self.one.label_of(state), ())) for state in self.one.starts]
+        return [(state, self.sets.firsts.get(self.one.label_of(state), 0)) for state in self.one.starts]
 
     def behind(self, pair):
         """The pairs to which a pair leads, by deeds, then by states; None if its set is empty."""
-        if not pair[1]:
+        if pair[1] == 0:
             return None
         return [after for deed in self.one.deeds for after in self.by_deed(pair, deed)]
 
     def by_deed(self, pair, deed):
         """The pairs to which a pair leads by a deed."""
         groups = self.sets.behind(pair[1], deed)
-        return [(state, groups.get(self.one.label_of(state), ())) for state in self.one.nexts(pair[0], deed)]
+        return [(state, groups.get(self.one.label_of(state), 0)) for state in self.one.nexts(pair[0], deed)]
 
 
 def least_row(pairs, firsts):
@@ -103,12 +103,12 @@ def parting_layers(pairs, firsts):
     """For each moment the pairs by which a pair with an empty set comes about the soonest."""
     layers = [{pair: True for pair in firsts}]
     seen = {pair: True for pair in firsts}
-    while all([among for state, among in layers[-1]]):
+    while all([among != 0 for state, among in layers[-1]]):
         layer = {after: True for pair in layers[-1] for after in pairs.behind(pair) if after not in seen}
         for pair in layer:
             seen[pair] = True
         layers.append(layer)
-    alive = [{pair: True for pair in layers[-1] if not pair[1]}]
+    alive = [{pair: True for pair in layers[-1] if pair[1] == 0}]
     for layer in layers[-2::-1]:
         among = alive[-1]
         alive.append({pair: True for pair in layer if any([after in among for after in pairs.behind(pair)])})

@@ -4,6 +4,7 @@ from dimkeeper.among import Parting, Shared, check_comparable
 from dimkeeper.checks import is_one_of, is_pair
 from dimkeeper.papers import is_called
 from dimkeeper.rows import states_behind, with_label
+from dimkeeper.state_sets import StateSets
 
 
 def shows_among(one, other, value):
@@ -32,27 +33,29 @@ def is_right_shared(one, other, pairs):
     """Whether pairs hold one for each start, and for each next state of each of their states."""
     if not isinstance(pairs, tuple) or not all([is_shared_pair(one, other, pair) for pair in pairs]):
         return False
-    rows = {state: [] for state in one.states}
+    sets = StateSets(other)
+    told = {state: {} for state in one.states}
     for state, states in pairs:
-        rows[state].append(states)
-    if not all([has_within(rows[start], other.starts) for start in one.starts]):
+        told[state][sets.set_of(states)] = True
+    if not all([has_within(told[start], sets.firsts.get(one.label_of(start), 0)) for start in one.starts]):
         return False
-    afters = {(states, deed): {} for state, states in pairs for deed in one.deeds}
-    for state, states in pairs:
-        for deed in one.deeds:
-            for after in one.nexts(state, deed):
-                afters[states, deed][after] = True
-    for states, deed in afters:
-        behind = states_behind(other, states, deed)
-        if not all([has_within(rows[after], behind) for after in afters[states, deed]]):
-            return False
-    return True
+    wanted = {}
+    for state in one.states:
+        for bits in told[state]:
+            for after, among in led_to(one, sets, state, bits):
+                wanted[after, among] = True
+    return all([has_within(told[after], among) for after, among in wanted])
 
 
-def has_within(rows, states):
-    """Whether one of these rows has none but these states."""
-    among = {state: True for state in states}
-    return any([all([state in among for state in row]) for row in rows])
+def led_to(one, sets, state, bits):
+    """The pairs of a next state of a state and the set of what has its label behind a set, by the same deed."""
+    return [(after, sets.behind(bits, deed).get(one.label_of(after), 0))
+            for deed in one.deeds for after in one.nexts(state, deed)]
+
+
+def has_within(told, bits):
+    """Whether one of these sets has none but the states of this one."""
+    return bits in told or any([among & bits == among for among in told])
 
 
 def is_right_way(one, value):

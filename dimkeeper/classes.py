@@ -28,24 +28,24 @@ def class_numbers(world):
     sets = StateSets(world)
     met = sets.all_sets(MOST_SETS)
     # The sets are shared out by what they show, then by where they lead, until nothing more is shared out.
-    groups = numbered({states: world.label_of(states[0]) for states in met})
+    groups = numbered({bits: world.label_of(sets.states_of(bits)[0]) for bits in met})
     many = 0
     while many < len(set(list(groups.values()))):
         many = len(set(list(groups.values())))
-        groups = numbered({states: marks_of(sets, states, groups) for states in met})
-    return {state: groups[state,] for state in world.states}
+        groups = numbered({bits: marks_of(sets, bits, groups) for bits in met})
+    return {state: groups[sets.set_of((state,))] for state in world.states}
 
 
 def numbered(marks):
     """The number of the mark of each set, as the marks come first."""
     numbers = order_of(each_once(list(marks.values())))
-    return {states: numbers[mark] for states, mark in marks.items()}
+    return {bits: numbers[mark] for bits, mark in marks.items()}
 
 
-def marks_of(sets, states, groups):
+def marks_of(sets, bits, groups):
     """The group of a set, and for each deed those of the sets to which it leads, with their labels."""
-    return (groups[states], *[tuple([(label, groups[group]) for label, group in sets.behind(states, deed).items()])
-                              for deed in sets.world.deeds])
+    return (groups[bits], *[tuple([(label, groups[group]) for label, group in sets.behind(bits, deed).items()])
+                            for deed in sets.world.deeds])
 
 
 def parted(world, a, b):
