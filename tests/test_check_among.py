@@ -87,6 +87,14 @@ class CheckAmong(Case):
         self.assertIs(shows_among(world.begun("s"), world.begun("s"), Shared([("s", ("s", "t")), ("u", ("u",))])), False)
         self.assertIs(shows_among(world.begun("s"), world.begun("s"), Shared([("s", ("s",)), ("u", ("u",))])), True)
 
+    def test_labels_that_other_shows_elsewhere(self):
+        one = World.read("d ; s l t m ; s ; t / t")
+        pairs = Shared([("s", ("a",)), ("t", ("b",))])
+        for text, right in [("d ; a l b m ; a ; b / b", True), ("d ; a l b m ; a ; a / b", False),
+                            ("d ; b m a l ; a ; b / a", False), ("d ; a l b m ; b ; b / b", False),
+                            ("d ; b m a l ; b ; b / b", False)]:
+            self.assertIs(shows_among(one, World.read(text), pairs), right, text)
+
     def test_longer_rows_and_wider_sets(self):
         one, other = GARDEN.begun("fa"), GARDEN.begun("fb")
         for row, way, sets, right in [
