@@ -81,4 +81,4 @@ def first_kept(task, k):
     if not search.goes_to_end():
         return None
     table = search.end_table()
-    return Kept(table.pages, search.answers(), holds(task, table).triples)
+    return Kept(table.pages, search.given(), holds(task, table).triples)

@@ -33,7 +33,7 @@ def whole_tree(search):
         if search.here == Search.ASK:
             told.append([])
         else:
-            first, states = search.shortest_break()
+            first, states = search.leaf_play()
             tree = told_whole(search, told, Leaf(first[1], states))
             if tree is not None:
                 return tree

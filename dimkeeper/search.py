@@ -65,7 +65,8 @@ class Search:
         if not self.questions:
             self.here = None
             return
-        if self._answer_breaks():
+        self._give_answer()
+        if self._is_leaf():
             self.here = self.LEAF
             return
         cell = self._due()
@@ -82,17 +83,23 @@ class Search:
             self.go_on()
         return self.here is not None
 
-    def answers(self):
+    def given(self):
         """The answers above, in order."""
         return tuple([(*cell, *entry) for cell, entry in self._entries.items()])
 
     def end_table(self):
         """The table that stands at an end."""
-        return Table(self.used, self.answers())
+        return Table(self.used, self.given())
+
+    def leaf_play(self):
+        """The first stand, and the states, of the play with which a leaf ends."""
+        return self.shortest_break()
 
     def shortest_break(self):
-        """The first stand, and the states, of the shortest play that breaks by the answers above."""
+        """The first stand, and the states, of the shortest play that breaks by the answers above, or None."""
         ahead, fault = walk_until([(number, 1) for number in self.steps.begun()], lambda triple: self._led_to(triple))
+        if fault is None:
+            return None
         stands = [self.steps.stand_of(number) for number, page in way_to(ahead, fault)]
         return stands[0], [state for state, kept in stands]
 
@@ -133,15 +140,18 @@ class Search:
         self._waiting.setdefault(cell, []).append((number, page))
         return cell in self._entries
 
-    def _answer_breaks(self):
-        """Gives the next answer to the last question; whether a play breaks by the answers above."""
+    def _give_answer(self):
+        """Gives the next answer to the last question."""
         question = self.questions[-1]
         deed = self.steps.deeds[question.tried // question.width]
         page = question.tried % question.width + 1
         question.tried += 1
         self._entries[question.cell] = (deed, page)
         self.used = max(question.used, page)
-        due = list(self._waiting.get(question.cell, ()))
+
+    def _is_leaf(self):
+        """Whether a play breaks by the answers above, the last one of which is new."""
+        due = list(self._waiting.get(self.questions[-1].cell, ()))
         while due:
             behind = self._led_to(due.pop())
             if behind is None:

@@ -36,10 +36,10 @@ def leaf_fault_by_hand(task, leaf, above):
     return None
 
 
-def fault_by_hand(task, k, tree, above=()):
+def fault_by_hand(task, k, tree, above=(), leaf_fault=leaf_fault_by_hand):
     """By the words of the document."""
     if isinstance(tree, Leaf):
-        what = leaf_fault_by_hand(task, tree, above)
+        what = leaf_fault(task, tree, above)
         return what and (above, what)
     used = max([1] + [row[3] for row in above])
     if tree.page > used:
@@ -54,7 +54,7 @@ def fault_by_hand(task, k, tree, above=()):
         return above, "pages"
     for deed, row in zip(task.world.deeds, tree.parts):
         for at, part in enumerate(row):
-            fault = fault_by_hand(task, k, part, above + ((tree.page, tree.sight, deed, at + 1),))
+            fault = fault_by_hand(task, k, part, above + ((tree.page, tree.sight, deed, at + 1),), leaf_fault)
             if fault:
                 return fault
     return None

@@ -35,7 +35,7 @@ class Refusals(Case):
         # Behind the answer a, 2 the cell (2, r) is asked: a breaks at moment 1 with both pages, b, 2 at moment 2.
         search, told = Search(BY_TURNS, 2), []
         while search.here is not None:
-            told.append((search.here, search.answers()))
+            told.append((search.here, search.given()))
             search.go_on()
         ahead = ((1, "r", "a", 2),)
         self.assertEqual(told, [("ask", ()), ("leaf", ((1, "r", "a", 1),)), ("ask", ahead),
