@@ -68,6 +68,13 @@ def joined_pairs(firsts, seconds):
     return {(first, second): joined_name(first, second) for first in firsts for second in seconds}
 
 
+def joined_once(pairs):
+    """The joined name of each of these different pairs, by the pair; raises Twice for the first name made twice."""
+    names = {pair: joined_name(pair[0], pair[1]) for pair in pairs}
+    refuse_twice(list(names.values()))
+    return names
+
+
 def beside(one, other):
     """Two worlds side by side: a Made for what the names of each stand for, over one world."""
     check_worlds(one, other)

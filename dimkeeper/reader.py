@@ -61,10 +61,10 @@ class Reader:
         return taken
 
     def take_ascending(self, names, most, mark):
-        """Names in ascending order, behind those that are told, at most so many; and the mark behind them."""
+        """Names in ascending order, behind those that are told, at most so many, or any; and the mark behind them."""
         taken = list(names)
         while self.due() != mark:
-            self.need(len(taken) < most and is_name(self.due()))
+            self.need((most is None or len(taken) < most) and is_name(self.due()))
             taken.append(self.take(not taken or self.due() > taken[-1]))
         self.take_mark(mark)
         return taken

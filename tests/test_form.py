@@ -217,7 +217,7 @@ class Form(unittest.TestCase):
                     self.assertIn(id(node), called, (name, node.attr, node.lineno))
 
     def test_statements_and_expressions(self):
-        barred = (ast.GeneratorExp, ast.Global, ast.AsyncFunctionDef, ast.Await, ast.Div, ast.Try, ast.With, ast.Match,
+        barred = (ast.GeneratorExp, ast.Global, ast.AsyncFunctionDef, ast.Await, ast.Div, ast.With, ast.Match,
                   ast.AnnAssign, ast.NamedExpr, ast.Nonlocal)
         for name, node in self.each(*barred):
             self.fail((name, node.lineno, node))
@@ -232,6 +232,14 @@ class Form(unittest.TestCase):
         for name, node in self.each(ast.Raise):
             self.assertIsInstance(node.exc, ast.Call, name)
             self.assertIsInstance(node.exc.func, ast.Name, name)
+
+    def test_only_own_errors_are_caught(self):
+        own = {node.name for node in TREES["errors.py"].body if isinstance(node, ast.ClassDef)}
+        for name, node in self.each(ast.Try):
+            self.assertEqual((node.orelse, node.finalbody), ([], []), name)
+            for handler in node.handlers:
+                self.assertIsInstance(handler.type, ast.Name, name)
+                self.assertIn(handler.type.id, own, name)
 
     def test_words(self):
         for name, text in SOURCES.items():
