@@ -212,7 +212,7 @@ class CheckSmudged(Case):
         wide = calm.changed(world=cut)
         self.assertIs(shows_stays(wide, table, Smudges(0), Stays([("o", 1, "x", 0), ("o", 2, "x", 0), ("p", 1, "x", 0)])), True)
         for states, pages, fine in [("ooo", [1, 1, 1], True), ("ooo", [1, 2, 2], False), ("oooo", [1, 2, 1, 1], False),
-                                    ("ooooo", [1, 2, 1, 1, 2], False), ("oo", [1, 1], False), ("oooo", [1, 2, 2, 2], False),
+                                    ("ooooo", [1, 2, 1, 1, 2], False), ("oo", [1, 1], False), ("oooo", [1, 2, 2, 2], True),
                                     ("ooo", [1, 1], False), ("ooo", [1, 1, True], False), ("ooo", [2, 1, 1], False), ("ooo", [1, 1, 3], False),
                                     ("ooooo", [1, 2, 1, 1, 1], True)]:
             value = Slips("x", list(states), pages)
