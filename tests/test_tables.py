@@ -69,7 +69,7 @@ class Tables(Case):
         self.assertEqual(len(Table(200, rows)), 2000)
         self.fails(TooMany("entries", 2000), Table, 200, rows + [(1, "s", "a", 1)])
         self.fails(TooMany("pages", 200), Table, 201, rows + [(1, "s", "a", 1)])
-        self.reads(Table, Table(50, rows[:500]))
+        self.reads(Table, Table(8, rows[:80]))
         self.assertEqual(Table.read(str(Table(200, rows))), Table(200, rows))
 
     def test_turned(self):

@@ -136,7 +136,7 @@ class Whole(Case):
         self.assertEqual(len(made), 33)
 
     def test_texts(self):
-        for chance in chances(25):
+        for chance in chances(8):
             task = random_task(chance, most_states=3)
             steps = [("see" if at % 2 == 0 else "do", chance.choice(["a", "b.c"])) for at in range(chance.randint(0, 3))]
             for kind, value in [(World, task.world), (Blur, task.blur), (Watch, task.watch), (Table, random_table(chance, task, 2)),
@@ -144,7 +144,7 @@ class Whole(Case):
                                 (Tree, random_tree(chance, 2))]:
                 self.reads(kind, value)
                 text = str(value)
-                if len(text) < 200:
+                if len(text) < 120:
                     self.bends(kind, text)
                 for odd in of_every_kind():
                     if not isinstance(odd, str):
