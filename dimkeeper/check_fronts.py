@@ -1,6 +1,6 @@
 """Whether fronts are right."""
 
-from dimkeeper.blurs import MOST_SHARED_OUT, Blur, blurs_of, is_finer
+from dimkeeper.blurs import MOST_SHARED_OUT, blurs_of, is_finer
 from dimkeeper.check_kept import shows_kept
 from dimkeeper.check_patience import shows_patience, shows_time
 from dimkeeper.check_trees import shows_refusal
@@ -127,8 +127,6 @@ def shows_sight_front(task, k, value):
     if not isinstance(value, SightFront) or not is_called(value, "SightFront"):
         return False
     if len(task.world.labels) > MOST_SHARED_OUT or not are_pairs(value.enough) or not are_pairs(value.short):
-        return False
-    if not all([isinstance(blur, Blur) for blur, paper in value.enough + value.short]):
         return False
     blurs = list(blurs_of(task.world.labels))
     enough = [blur for blur, paper in value.enough]

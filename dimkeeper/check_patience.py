@@ -77,9 +77,8 @@ def is_ring(asking, spots):
 
 
 def is_late(asking, spots, many):
-    """Whether spots are those of the first moments of a play that are late for so many moments."""
-    if many == 0:
-        return any([asking.asks(spot) for spot in spots])
+    """Whether spots are those of the first moments of a play that are late for so many moments; for 0 it is enough
+    that one asks."""
     for at, spot in enumerate(spots):
         row = spots[at:at + many]
         if asking.asks(spot) and len(row) == many and not any([asking.answered_at(behind) for behind in row]):
@@ -90,7 +89,7 @@ def is_late(asking, spots, many):
 def wait_fault(asking, leaf, above, many):
     """What is wrong with a leaf behind answers: it is to break, or to be late for so many moments, a ring for None."""
     what = play_fault(asking.task, leaf, above)
-    if what is None or (leaf.states[0], leaf.first) not in asking.task.standing:
+    if (leaf.states[0], leaf.first) not in asking.task.standing:
         return what
     spots = spots_along(asking, {entry[:2]: entry[2:] for entry in above}, leaf.states)
     if spots is None:

@@ -1,7 +1,7 @@
 """Halls: one play of a task, followed as it happens."""
 
 from dimkeeper.checks import is_one_of, is_within
-from dimkeeper.errors import BadNumbers, Breaks, NoEntry, Nothing, NotNow
+from dimkeeper.errors import BadNumbers, Breaks, Nothing, NotNow
 from dimkeeper.least import least_pages
 from dimkeeper.steps import MOST_VIEWS, Steps, branches_met, ranks_of
 from dimkeeper.stories import DO, SEE, Story, check_story, pairs_behind
@@ -105,10 +105,7 @@ class Hall:
         check_table(table, "table")
         if not is_within(page, 1, None):
             raise BadNumbers("page")
-        sight = self._steps[-1][1]
-        if (page, sight) not in table:
-            raise NoEntry(page, sight)
-        return table.entry_of(page, sight)
+        return table.entry_of(page, self._steps[-1][1])
 
     def followed(self, table, page):
         """Does the deed that a table tells for a page, and returns the next page."""

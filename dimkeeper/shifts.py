@@ -2,7 +2,7 @@
 
 from dimkeeper.blurs import Blur
 from dimkeeper.checks import is_name, is_row, joined_name
-from dimkeeper.errors import BadRoster, BadTable, TooMany
+from dimkeeper.errors import BadRoster, TooMany
 from dimkeeper.made import Made, joined_once
 from dimkeeper.orders import each_once
 from dimkeeper.stands import check_labels_known
@@ -60,11 +60,8 @@ def own_table(table, keeper):
     if not is_name(keeper):
         raise BadRoster("keeper")
     mark = f"{keeper}."
-    entries = [(page, sight[len(mark):], deed, after) for page, sight, deed, after in table.entries
-               if sight.startswith(mark)]
-    if not entries:
-        raise BadTable("entries")
-    return Table(table.pages, entries)
+    return Table(table.pages, [(page, sight[len(mark):], deed, after) for page, sight, deed, after in table.entries
+                               if sight.startswith(mark)])
 
 
 def shared_table(tables):

@@ -51,7 +51,7 @@ def due_at(at):
 
 def is_step(value, at):
     """Whether a value is the step of a story at a place."""
-    return is_pair(value) and isinstance(value[0], str) and value[0] == due_at(at) and is_name(value[1])
+    return is_pair(value) and is_one_of(value[0], (due_at(at),)) and is_name(value[1])
 
 
 def check_story(value):

@@ -174,6 +174,16 @@ class CheckFronts(Case):
                 (((4, 8), (5, True)), three, front.steps, False), (((True, 8), (5, 5)), None, front.steps, False)]:
             value = DelayFront(points, no, steps)
             self.assertIs(shows_delay_front(task, HOME, 5, value), fine, (points, no))
+        for points in (((4, 8), (4, 5)), ((5, 8), (4, 5)), ((1, 8), (1, 5)), ((4, 8), (5, 9))):
+            self.assertIs(shows_delay_front(task, HOME, 5, DelayFront(points, three, front.steps)), False)
+        # Both papers are right, but the delay is the same.
+        told = [least_delay(DIM, HOME, k) for k in (1, 2, 3)]
+        self.assertEqual([paper.number for paper in told], [3, 2, 2])
+        pairs = [(paper, paper) for paper in told]
+        self.assertIs(shows_delay_front(DIM, HOME, 3, DelayFront(((1, 3), (2, 2), (3, 2)), None, pairs)), False)
+        self.assertIs(shows_delay_front(DIM, HOME, 3, DelayFront(((1, 3), (2, 2)), None, (pairs[0], (told[1], told[2])))), True)
+        # A right Never is none of the papers of a point.
+        self.assertIs(shows_delay_front(task, HOME, 3, DelayFront(((3, 8),), least_delay(task, HOME, 2), ((three, three),))), False)
         # For three pages there is no point, and the Never of three pages tells it.
         self.assertIs(shows_delay_front(task, HOME, 3, DelayFront((), three, ())), True)
         self.assertIs(shows_delay_front(task, HOME, 4, DelayFront(((4, 8),), three, (four,))), True)
@@ -215,6 +225,13 @@ class CheckFronts(Case):
             value = MomentFront(points, steps, kept)
             self.assertIs(shows_moment_front(task, most, value), fine, (points, most))
             self.assertIs(moment_front_is_right(task, most, value), fine)
+        # Both papers are right, but the number is the same.
+        sure = [sure_moments(task, k) for k in (1, 2, 3)]
+        pairs = [(paper, paper) for paper in sure]
+        self.assertEqual([paper.number for paper in sure], [2, 2, 4])
+        self.assertIs(shows_moment_front(task, 4, MomentFront(((1, 2), (2, 2), (3, 4)), pairs, front.kept)), False)
+        for points in (((1, 2), (1, 4)), ((3, 2), (1, 4)), ((2, 2), (1, 4))):
+            self.assertIs(shows_moment_front(task, 4, MomentFront(points, front.steps, front.kept)), False)
         easy = word_task("a")
         kept = first_kept(easy, 1)
         self.assertIs(shows_moment_front(easy, 2, MomentFront((), (), kept)), True)
@@ -327,6 +344,9 @@ class CheckFronts(Case):
         few = joint(task, [watch for _, watch in told])
         self.assertEqual(len(few.watch), 1)
         value = PromiseFront([(("x", "y"), first_kept(joint(task, [wide[0][1]]), 1))], [(("hopeless",), refusal(joint(task, [told[0][1]]), 1))])
+        self.assertIs(shows_promise_front(task, told, 1, value), False)
+        value = PromiseFront([(("x",), first_kept(joint(task, [wide[0][1]]), 1)), (("y",), first_kept(joint(task, [wide[1][1]]), 1))],
+                             [(("hopeless",), refusal(joint(task, [told[0][1]]), 1)), (("x", "y"), refusal(joint(task, [told[0][1]]), 1))])
         self.assertIs(shows_promise_front(task, told, 1, value), False)
         # Where no set in value is too large, the front may be right.
         alone = PromiseFront([(("x",), first_kept(joint(task, [wide[0][1]]), 1))], [(("hopeless",), refusal(joint(task, [told[0][1]]), 1))])

@@ -98,6 +98,11 @@ class CheckPatience(Case):
         self.assertIs(shows_delay(task, table, late, Ring(list("stut"), 1)), True)
         self.assertIs(shows_delay(task, table, Wait(["h"], ["h"]), Ring(list("stut"), 1)), False)
         self.assertIs(shows_delay(task, table, Wait(["h"], ["q"]), Ring(list("stut"), 1)), False)
+        self.assertIs(shows_delay(task, table, wait, Ring(list("stutu"), 2)), True)
+        # An answer on the way round, and a question behind it.
+        loop = Task(World(["d"], [("s", "a", [["t"]]), ("t", "b", [["s"]])], ["s"]), Blur.alike(["a", "b"]), anything(["a", "b"], ["d"]))
+        for play, at in (("stst", 1), ("ststst", 1), ("ststst", 3), ("sts", 0)):
+            self.assertIs(shows_delay(loop, table, Wait(["b"], ["a"]), Ring(list(play), at)), False)
         # A plain loop that is come to ahead of the question, too: no answer from there on.
         turn = Task(World(["d"], [("s", "a", [["t"]]), ("t", "b", [["s"]])], ["s"]), Blur.alike(["a", "b"]),
                     anything(["a", "b"], ["d"]))
@@ -166,6 +171,35 @@ class CheckPatience(Case):
         none = least_delay(DIM, Wait(["odd"], ["h"]), 1)
         self.assertIs(shows_patience(DIM, Wait(["odd"], ["h"]), 1, none), True)
         self.assertIs(shows_patience(DIM, Wait(["odd"], ["h"]), 1, Patience(0, none.table, none.delay, BY_HAND)), False)
+
+    def test_plays_that_do_not_ask(self):
+        world = World(["d"], [("s", "n", [["t"]]), ("t", "n", [["h"]]), ("q", "q", [["t"]]), ("h", "h", [["h"]])], ["s", "q"])
+        task = Task(world, Blur.alike(["n", "q", "h"]), anything(["n", "q", "h"], ["d"]))
+        table, wait = Table(1, [(1, "dark", "d", 1)]), Wait(["q"], ["h"])
+        told = delay(task, table, wait)
+        self.assertEqual((told.number, told.play), (3, ("q", "t", "h")))
+        self.assertIs(shows_delay(task, table, wait, Delay(3, told.heights, ("s", "t", "h"))), False)
+        # A leaf that is late needs a moment that asks, and no answer from it on.
+        for states, number, fine in [(("q", "t"), 3, True), (("s", "t"), 3, False), (("q", "t", "h"), 3, True), (("q",), 3, False)]:
+            tree = Need(1, "dark", ((Leaf("w0", states),),))
+            self.assertIs(shows_patience(task, wait, 1, Patience(number, table.entries, told, tree)), fine, states)
+            self.assertEqual(wait_tree_fault(task, wait, 1, tree, number - 1) is None, fine)
+        again = World(["d"], [("q", "q", [["t"]]), ("t", "h", [["q", "u"]]), ("u", "q", [["v"]]), ("v", "n", [["h"]]), ("h", "h", [["h"]])], ["q"])
+        task = Task(again, Blur.alike(["n", "q", "h"]), anything(["n", "q", "h"], ["d"]))
+        told = delay(task, table, wait)
+        for states, fine in [(("q", "t", "u", "v"), True), (("q", "t", "q", "t"), False), (("q", "t", "u"), False)]:
+            value = Patience(3, table.entries, told, Need(1, "dark", ((Leaf("w0", states),),)))
+            self.assertIs(shows_patience(task, wait, 1, value), fine, states)
+
+    def test_rings_as_leaves(self):
+        world = World(["d"], [("s", "a", [["t"]]), ("t", "b", [["s"]])], ["s"])
+        task = Task(world, Blur.alike(["a", "b"]), anything(["a", "b"], ["d"]))
+        for wait, states, fine in [(Wait(["b"], ["odd"]), "sts", True), (Wait(["b"], ["odd"]), "st", False), (Wait(["b"], ["a"]), "stst", False),
+                                   (Wait(["b"], ["a"]), "sts", False), (Wait(["odd"], ["odd"]), "sts", False), (Wait(["a"], ["b"]), "sts", False),
+                                   (Wait(["b"], ["odd"]), "ststst", True), (Wait(["a"], ["odd"]), "tst", False)]:
+            tree = Need(1, "dark", ((Leaf("w0", list(states)),),))
+            self.assertIs(shows_patience(task, wait, 1, Never(tree)), fine, (str(wait), states))
+            self.assertEqual(wait_tree_fault(task, wait, 1, tree, None) is None, fine)
 
     def test_late_leaves(self):
         # Late for 2: a moment that asks and the one behind it without an answer, at any place of the play.
@@ -247,6 +281,19 @@ class CheckPatience(Case):
         class Below(Delay):
             pass
 
+        for kind, paper in ((Ring, delay(DIM, Table(1, [(1, "dark", "a", 1)]), Wait(["h"], ["x"]))), (Patience, papers[2]), (Never, papers[3]),
+                            (SureTime, papers[4])):
+            told = type("Below", (kind,), {})(*paper.parts)
+            self.assertIs(shows_delay(DIM, Table(1, [(1, "dark", "a", 1)]), Wait(["h"], ["x"]), told), False)
+            self.assertIs(shows_patience(DIM, HOME, 1, told), False)
+            self.assertIs(shows_patience(DIM, Wait.again(["odd"]), 1, told), False)
+            self.assertIs(shows_time(ALIKE, 1, told), False)
+        # The Delay in a Patience is no Ring, though this one is right; a table that holds keeps all moments.
+        endless = Wait(["h"], ["x"])
+        ring = delay(DIM, FLAT_ONE, endless)
+        self.assertIs(shows_delay(DIM, FLAT_ONE, endless, ring), True)
+        self.assertIs(shows_patience(DIM, endless, 1, Patience(3, FLAT_ONE.entries, ring, BY_HAND)), False)
+        self.assertIs(shows_time(DIM, 1, SureTime(3, FLAT_ONE.entries, BY_HAND)), False)
         below = Below(*SLOW.parts)
         self.assertIs(shows_delay(DIM, FLAT_ONE, HOME, below), False)
         self.assertIs(shows_patience(DIM, HOME, 1, Patience(3, ((1, "dark", "b", 1),), below, BY_HAND)), False)

@@ -150,6 +150,8 @@ class Shifts(Case):
         more = {"z": Blur({"l": "b.c", "m": "o"}), "z.b": Blur({"l": "c", "m": "o"}),
                 "a": Blur({"l": "o", "m": "b.c"}), "a.b": Blur({"l": "o", "m": "c"})}
         self.fails(Twice("a.b.c"), shifts, one, ["z", "z.b", "a", "a.b"], more)
+        same = {"a": Blur({"l": "z.d", "m": "z.c"}), "a.z": Blur({"l": "d", "m": "c"})}
+        self.fails(Twice("a.z.c"), shifts, one, ["a", "a.z"], same)
         labels = World(["d"], [("s", "z", [["s"]]), ("t", "z.a", [["t"]]), ("u", "l", [["s"]]), ("v", "l.a", [["s"]])], ["s"])
         every = Blur.alike(labels.labels)
         # The first label in the order of the states.

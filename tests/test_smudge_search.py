@@ -208,6 +208,10 @@ class CheckSmudged(Case):
                            ((("o", 1, "y", 0),), False), ((("o", 1, "y", None), ("o", 2, "y", None)), False)]:
             cases = holds_smudged(calm, table, Smudges(1)).cases
             self.assertIs(shows_stays(calm, table, Smudges(1), Stays(cases + more)), fine, more)
+        still = holds_smudged(calm, table, Smudges(1, [])).cases
+        for left, fine in ((0, True), (1, True), (-1, False), (2, False), (True, False), (None, False)):
+            value = Stays(still + (("o", 1, "y", left), ("o", 2, "y", left)))
+            self.assertIs(shows_stays(calm, table, Smudges(1, []), value), fine, left)
         cut = World(["a", "b"], [("o", "r", [["o"], ["o"]]), ("p", "r", [["o"], ["o"]])], ["o"])
         wide = calm.changed(world=cut)
         self.assertIs(shows_stays(wide, table, Smudges(0), Stays([("o", 1, "x", 0), ("o", 2, "x", 0), ("p", 1, "x", 0)])), True)
@@ -257,6 +261,19 @@ class CheckSmudged(Case):
         self.assertIs(shows_firm(odd, Smudges(1), Unfirm(1, ahead)), True)
         self.assertIs(shows_firm(odd, Smudges(1), Unfirm(1, ahead[:2] + idle[2:])), False)
         self.assertIs(shows_firm(COIN_ONCE, Smudges(1), Unfirm(1, ahead)), False)
+        # All go on with the same cell.
+        first, second = lines
+        mixed = [(((1, "idle", "a", 1),) + first[0], *first[1:]), (((1, "idle", "a", 1),) + second[0], *second[1:]), second]
+        self.assertIs(shows_firm(odd, Smudges(1), Unfirm(1, mixed)), False)
+        mixed = [first, (((1, "idle", "b", 1),) + first[0], *first[1:]), (((1, "idle", "b", 1),) + second[0], *second[1:])]
+        self.assertIs(shows_firm(odd, Smudges(1), Unfirm(1, mixed)), False)
+        # Pages are counted from 1, asked ones and next ones.
+        zero = [(((0, "idle", deed, 1),) + line[0], *line[1:]) for line in lines for deed in "ab"]
+        self.assertIs(shows_firm(odd, Smudges(1), Unfirm(1, zero)), False)
+        lost = COIN_ONCE.changed(watch=never(["r"], ["a", "b"], ["r"]))
+        for page, fine in ((1, True), (0, False), (2, False), (True, False)):
+            told = [(((1, "r", deed, page),), "w0", ("o",), (1,)) for deed in "ab"]
+            self.assertIs(shows_firm(lost, Smudges(1), Unfirm(1, told)), fine, page)
         for told, fine in [(lines, True), (lines[::-1], True), (lines[:1], False), (lines + lines[:1], False), ((), False),
                            (((), "x", ("o",), (1,)), False), ((((), "x", ("o",), (1,)),), False), (None, False), (5, False)]:
             self.assertIs(shows_firm(COIN_ONCE, Smudges(1), Unfirm(1, told)), fine, told)
@@ -282,6 +299,10 @@ class CheckSmudged(Case):
         self.assertEqual((paper.number, paper.unfirm), (1, None))
         self.assertIs(shows_firm(one, Smudges(1), paper), True)
         self.assertIs(shows_firm(one, Smudges(1), Steady(1, paper.firm, unfirm)), False)
+        self.assertIs(shows_firm(one, Smudges(1), Steady(True, paper.firm, None)), False)
+        three = keep_smudged(COIN_ONCE, 3, Smudges(1))
+        self.assertIs(shows_firm(COIN_ONCE, Smudges(1), three), True)
+        self.assertIs(shows_firm(COIN_ONCE, Smudges(1), Steady(3, three, unfirm)), False)
         two = keep_smudged(one, 2, Smudges(1))
         self.assertIs(shows_firm(one, Smudges(1), two), True)
         self.assertIs(shows_firm(one, Smudges(1), Steady(2, two, unfirm)), False)
@@ -322,6 +343,7 @@ class CheckSmudged(Case):
             below = type(kind.__name__ + "s", (kind,), {})(*paper.parts)
             self.assertIs(shows_firm(COIN_ONCE, Smudges(1), below), False)
         self.assertIs(shows_stays(COIN_ONCE, PAIR, Smudges(1), type("Below", (Stays,), {})(stays.cases)), False)
+        self.assertIs(shows_stays(COIN_ONCE, PAIR, Smudges(2), type("Below", (Slips,), {})(*slips.parts)), False)
         self.assertIs(shows_stays(COIN_ONCE, PAIR, Smudges(1), stays), True)
         self.assertIs(shows_stays(COIN_ONCE, PAIR, Smudges(2), slips), True)
 
