@@ -22,7 +22,7 @@ def shows_stays(task, table, smudges, value):
     smudging = Smudging(task, table.pages, smudges)
     entries = entries_by_cell(table)
     cases = cases_along(smudging, entries, value.first, (value.states, value.pages))
-    return cases is not None and smudging.leads(entries, cases[-1]) is None
+    return cases is not None and smudging.leads(entries, cases[-1], {}) is None
 
 
 def are_cases(task, table, smudges, cases):
@@ -36,7 +36,8 @@ def are_cases(task, table, smudges, cases):
         return False
     smudging = Smudging(task, table.pages, smudges)
     entries = entries_by_cell(table)
-    return are_closed(cases, smudging.first_cases(), lambda case: smudging.leads(entries, case))
+    told = {}
+    return are_closed(cases, smudging.first_cases(), lambda case: smudging.leads(entries, case, told))
 
 
 def cases_along(smudging, entries, first, rows):
@@ -49,7 +50,7 @@ def cases_along(smudging, entries, first, rows):
         return None
     cases = [case for case in smudging.first_cases() if case[:3] == (states[0], pages[0], first)]
     for state, page in list(zip(states, pages))[1:]:
-        behind = smudging.leads(entries, cases[-1]) if cases else None
+        behind = smudging.leads(entries, cases[-1], {}) if cases else None
         found = [case for case in behind or () if case[:2] == (state, page)]
         if not found:
             return None

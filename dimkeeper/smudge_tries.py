@@ -20,7 +20,9 @@ class SmudgeTries:
 
     def all_cases(self):
         """The cases that come about; all cells that are needed are answered."""
-        return list(walk_until(self.smudging.first_cases(), lambda case: self.smudging.leads(self._entries, case))[0])
+        told = {}
+        firsts = self.smudging.first_cases()
+        return list(walk_until(firsts, lambda case: self.smudging.leads(self._entries, case, told))[0])
 
     def ask(self, cell):
         """Gives the first answer to a cell."""
@@ -48,6 +50,7 @@ class SmudgeTries:
         ahead = {case: None for case in self.smudging.first_cases()}
         seen = {case[:3]: True for case in ahead}
         level = list(ahead)
+        told = {}
         due = None
         while level:
             fewer = []
@@ -59,7 +62,7 @@ class SmudgeTries:
                 if cell not in self._entries:
                     due = cell if due is None else due
                     continue
-                behind = self.smudging.led_by(case, self._entries[cell])
+                behind = self.smudging.led_by(case, self._entries[cell], told)
                 if behind is None:
                     return told_play(way_to(ahead, case)), None
                 fewer.extend([(after, case) for after in behind if after[3] != case[3]])

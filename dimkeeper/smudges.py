@@ -86,7 +86,8 @@ def holds_smudged(task, table, smudges):
     check_smudged(task, table, smudges)
     smudging = Smudging(task, table.pages, smudges)
     entries = entries_by_cell(table)
-    ahead, fault = walk_until(smudging.first_cases(), lambda case: smudging.leads(entries, case))
+    told = {}
+    ahead, fault = walk_until(smudging.first_cases(), lambda case: smudging.leads(entries, case, told))
     if fault is None:
         return Stays(list(ahead))
     way = way_to(ahead, fault)

@@ -33,24 +33,37 @@ class Smudging:
         """Whether a smudge can come behind the deed at a case."""
         return self._smudged[case[0]] and case[3] != 0
 
-    def led_by(self, case, entry):
-        """The cases to which a case leads by an entry, a deed and a next page, in order; None if the deed breaks."""
+    def led_by(self, case, entry, told):
+        """The cases to which a case leads by an entry, a deed and a next page, in order; None if the deed breaks.
+
+        Cases behind a smudge are left out that an earlier call with this dict has told.
+        """
         deed, page = entry
         place = self.place_behind(case, deed)
         if place == Watch.BROKEN:
             return None
         left = case[3]
-        others = []
-        if self.can_come(case):
-            others = [other for other in range(1, self.pages + 1) if other != page]
         fewer = None if left is None else left - 1
         behind = []
         for state in self.task.world.nexts(case[0], deed):
             behind.append((state, page, place, left))
-            behind.extend([(state, other, place, fewer) for other in others])
+            if self.can_come(case):
+                others = self._others(page, (state, place, fewer), told)
+                behind.extend([(state, other, place, fewer) for other in others])
         return behind
 
-    def leads(self, entries, case):
-        """The cases to which a case leads, in order; None if its cell lacks an entry, or the deed breaks."""
+    def _others(self, page, group, told):
+        """The other pages, but for those that were told for a group of cases that differ in their pages alone."""
+        if group not in told:
+            told[group] = page
+            return [other for other in range(1, self.pages + 1) if other != page]
+        missing = told[group]
+        if missing is None or missing == page:
+            return []
+        told[group] = None
+        return [missing]
+
+    def leads(self, entries, case, told):
+        """The cases to which a case leads, as led_by tells; None if its cell lacks an entry, or the deed breaks."""
         cell = self.cell_at(case)
-        return self.led_by(case, entries[cell]) if cell in entries else None
+        return self.led_by(case, entries[cell], told) if cell in entries else None
