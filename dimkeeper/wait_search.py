@@ -16,8 +16,11 @@ class WaitSearch(Search):
 
     def leaf_play(self):
         """The first stand, and the states, of the play with which a leaf ends."""
+        play = self.shortest_break()
+        if play is not None:
+            return play
         states = self._late()
-        return self.shortest_break() if states is None else (stand_at(self.task, states[0]), states)
+        return stand_at(self.task, states[0]), states
 
     def _is_leaf(self):
         return super()._is_leaf() or self._late() is not None
