@@ -7,7 +7,7 @@ from test_check_kept import kept_is_right
 from test_check_patience import patience_is_right
 from test_check_trees import fault_by_hand
 from test_fronts import AAB, BLIND, STILL
-from test_heights import DIM, HOME
+from test_heights import DIM, HOME, ways_task
 from test_keepers import free_task
 from test_least import word_task
 from test_moments import time_is_right
@@ -182,6 +182,10 @@ class CheckFronts(Case):
         pairs = [(paper, paper) for paper in told]
         self.assertIs(shows_delay_front(DIM, HOME, 3, DelayFront(((1, 3), (2, 2), (3, 2)), None, pairs)), False)
         self.assertIs(shows_delay_front(DIM, HOME, 3, DelayFront(((1, 3), (2, 2)), None, (pairs[0], (told[1], told[2])))), True)
+        row = ways_task(12)
+        told = [least_delay(row, HOME, k) for k in (1, 2)]
+        for points, steps, fine in ((((1, 12), (2, 12)), [(paper, paper) for paper in told], False), (((1, 12),), [told], True)):
+            self.assertIs(shows_delay_front(row, HOME, 2, DelayFront(points, None, steps)), fine)
         # A right Never is none of the papers of a point.
         self.assertIs(shows_delay_front(task, HOME, 3, DelayFront(((3, 8),), least_delay(task, HOME, 2), ((three, three),))), False)
         # For three pages there is no point, and the Never of three pages tells it.
@@ -232,6 +236,10 @@ class CheckFronts(Case):
         self.assertIs(shows_moment_front(task, 4, MomentFront(((1, 2), (2, 2), (3, 4)), pairs, front.kept)), False)
         for points in (((1, 2), (1, 4)), ((3, 2), (1, 4)), ((2, 2), (1, 4))):
             self.assertIs(shows_moment_front(task, 4, MomentFront(points, front.steps, front.kept)), False)
+        none = BLIND.changed(watch=never(BLIND.watch.labels, BLIND.watch.deeds, ["h"]))
+        sure = [sure_moments(none, k) for k in (1, 2)]
+        for points, steps, fine in ((((1, 0), (2, 0)), [(paper, paper) for paper in sure], False), (((1, 0),), [sure], True)):
+            self.assertIs(shows_moment_front(none, 2, MomentFront(points, steps, None)), fine)
         easy = word_task("a")
         kept = first_kept(easy, 1)
         self.assertIs(shows_moment_front(easy, 2, MomentFront((), (), kept)), True)
@@ -345,7 +353,7 @@ class CheckFronts(Case):
         self.assertEqual(len(few.watch), 1)
         value = PromiseFront([(("x", "y"), first_kept(joint(task, [wide[0][1]]), 1))], [(("hopeless",), refusal(joint(task, [told[0][1]]), 1))])
         self.assertIs(shows_promise_front(task, told, 1, value), False)
-        value = PromiseFront([(("x",), first_kept(joint(task, [wide[0][1]]), 1)), (("y",), first_kept(joint(task, [wide[1][1]]), 1))],
+        value = PromiseFront([(("x",), first_kept(joint(task, [wide[0][1]]), 1))],
                              [(("hopeless",), refusal(joint(task, [told[0][1]]), 1)), (("x", "y"), refusal(joint(task, [told[0][1]]), 1))])
         self.assertIs(shows_promise_front(task, told, 1, value), False)
         # Where no set in value is too large, the front may be right.
