@@ -150,6 +150,17 @@ class Whole(Case):
                     if not isinstance(odd, str):
                         self.fails(errors.BadText(0, 0), kind.read, odd)
 
+    def test_integers_in_texts(self):
+        desk = Desk(["set k table 1 : 1 r a 1"])
+        for word in ("0000000001", "1234567890", "9" * 10, "1" * 5000, "9" * 90000, "01", "-1", "+1", "1.0", "0x1", "1_0", "one", "201", "", "None"):
+            self.fails(errors.BadText(0, 0), Table.read, word + " : 1 r a 1")
+            self.fails(errors.BadText(0, 2), Table.read, f"3 : {word} r a 1")
+            self.fails(errors.BadText(0, 5), Table.read, f"3 : 1 r a {word}")
+            self.fails(errors.BadText(0, 1), Tree.read, f"ask {word} r ( play w o )")
+            self.fails(errors.BadText(0, 0), Smudges.read, f"{word} at l")
+            self.fails(errors.BadText(0, 2), desk.tell, f"follow k {word}")
+            self.fails(errors.BadText(0, 3), desk.tell, f"set t table {word} : 1 r a 1")
+
     def test_one_task(self):
         seen = set()
         for chance in chances(160):
