@@ -14,7 +14,7 @@ from dimkeeper.delays import Never, Patience, least_delay
 from dimkeeper.errors import BadNumbers, BadTable, BadTask, BadWait, NoEntry, Unlike
 from dimkeeper.heights import Delay, Ring, delay
 from dimkeeper.moments import SureTime, sure_moments
-from dimkeeper.promises import anything
+from dimkeeper.promises import anything, never
 from dimkeeper.tables import Table
 from dimkeeper.tasks import Task, choices
 from dimkeeper.trees import Leaf, Need, Tree
@@ -200,6 +200,35 @@ class CheckPatience(Case):
             tree = Need(1, "dark", ((Leaf("w0", list(states)),),))
             self.assertIs(shows_patience(task, wait, 1, Never(tree)), fine, (str(wait), states))
             self.assertEqual(wait_tree_fault(task, wait, 1, tree, None) is None, fine)
+
+    def test_cells_that_are_not_needed(self):
+        # Questions whose answers no leaf goes by do no harm, ahead of and behind the others.
+        blur = Blur({"h": "dark", "e": "dark", "odd": "idle"})
+        task, found = DIM.changed(blur=blur), least_delay(DIM, HOME, 1)
+        for tree, fine in [(Need(1, "idle", [[found.tree], [found.tree]]), True), (Need(1, "idle", [[found.tree]]), False),
+                           (Need(1, "lost", [[found.tree], [found.tree]]), False), (Need(2, "idle", [[found.tree], [found.tree]]), False),
+                           (Need(1, "dark", [[Need(1, "idle", [[part], [part]]) for part in row] for row in found.tree.parts]), True)]:
+            value = Patience(found.number, found.table, found.delay, tree)
+            self.assertIs(shows_patience(task, HOME, 1, value), fine)
+            self.assertEqual(wait_tree_fault(task, HOME, 1, tree, found.number - 1) is None, fine)
+        endless = least_delay(DIM, Wait.again(["odd"]), 1).tree
+        self.assertIs(shows_patience(task, Wait.again(["odd"]), 1, Never(Need(1, "idle", [[endless], [endless]]))), True)
+        self.assertIs(shows_patience(DIM, Wait.again(["odd"]), 1, Never(Need(1, "idle", [[endless], [endless]]))), False)
+
+    def test_nothing_is_sure(self):
+        none = DIM.changed(watch=never(DIM.watch.labels, DIM.watch.deeds, ["h"]))
+        paper = sure_moments(none, 2)
+        self.assertEqual((paper.number, paper.table), (0, ()))
+        self.assertIs(shows_time(none, 2, paper), True)
+        self.assertIs(shows_time(none, 2, SureTime(0, ((1, "dark", "a", 1),), paper.tree)), False)
+        self.assertIs(shows_time(none, 2, SureTime(1, ((1, "dark", "a", 1),), paper.tree)), False)
+        self.assertIs(shows_time(none, 2, SureTime(False, (), paper.tree)), False)
+        wait = Wait(["odd"], ["h"])
+        self.assertIs(shows_delay(DIM, FLAT_ONE, wait, Delay(0, (), ())), True)
+        self.assertIs(shows_delay(DIM, FLAT_ONE, wait, Delay(False, (), ())), False)
+        self.assertIs(shows_delay(DIM, FLAT_ONE, wait, Delay(0, (), ("h0",))), False)
+        self.assertIs(shows_patience(DIM, wait, 1, Patience(0, FLAT_ONE.entries, Delay(0, (), ()), None)), True)
+        self.assertIs(shows_patience(DIM, wait, 1, Patience(False, FLAT_ONE.entries, Delay(0, (), ()), None)), False)
 
     def test_late_leaves(self):
         # Late for 2: a moment that asks and the one behind it without an answer, at any place of the play.
