@@ -54,8 +54,9 @@ def taken_part(reader, kind, values):
         return reader.take_number(1, MOST_PAGES)
     if kind == "text":
         return taken_text(reader)
-    reader.need(reader.due() in values and is_of_kind(values[reader.due()], kind))
-    return values[reader.take(True)]
+    name = reader.due()
+    reader.take(name in values and is_of_kind(values[name], kind))
+    return values[name]
 
 
 def is_of_kind(value, kind):
